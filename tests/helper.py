@@ -1,0 +1,354 @@
+"""What the tests share: awkward values, random rows, and slow functions that follow the document word by word."""
+
+import random
+
+from circlekeep.books import Book, standard_book
+from circlekeep.errors import BadText
+from circlekeep.rows import Row
+
+STD = standard_book()
+ROW = Row(STD, (("lock", "s", "K"), "K"))
+
+# A book with all sorts of needs, two needs at once, a kind without openings, and openings that give words.
+WIDE = Book(
+    (("bag", 3), ("cap", 1), ("hat", 1), ("ink", 2), ("jar", 2), ("tin", 1), ("urn", 3), ("vat", 1)),
+    (("drop", "tin", 0, ()),
+     ("dump", "urn", 1, (("part", 0), ("part", 2))),
+     ("fish", "bag", 2, (("around", "cap", 0), ("inside", 1, "hat"))),
+     ("grab", "bag", 0, (("part", 2),)),
+     ("lift", "jar", 0, (("inside", 1, "cap"),)),
+     ("peel", "ink", 1, (("part", 1),)),
+     ("pick", "ink", 0, (("around", "hat", 1),)),
+     ("pour", "jar", 1, (("around", "cap", 0), ("around", "cap", 0))),
+     ("scan", "urn", 0, ()),
+     ("sift", "urn", 2, (("inside", 0, "tin"), ("part", 1))),
+     ("tear", "cap", 0, (("part", 0),)),
+     ("turn", "bag", 1, ())))
+
+SMALL = Book((("box", 1), ("duo", 2)), (("left", "duo", 0, ()), ("more", "duo", 1, (("part", 0),)),
+                                        ("peek", "box", 0, (("around", "box", 0),))))
+
+BOOKS = (STD, WIDE, SMALL)
+
+
+def nested(value, depth):
+    """A value within as many tuples, lists and dicts."""
+    for level in range(depth):
+        value = ((value,), [value], {"k": value}, ("pair", value, "K"))[level % 4]
+    return value
+
+
+def any_values():
+    """Values of all sorts that [2] names."""
+    deep = "a"
+    for _ in range(39):
+        deep = ("half", deep)
+    return [
+        None, True, False, 0, 1, -1, 2, 3, 10 ** 39, -(10 ** 39), "", "a", "K", "abcdefgh", "abcdefghi", "Kabcdefg",
+        "Kabcdefgh", "a\n", "K\n", "\n", " ", "a b", "aB", "KB", "K1", "1K", "a1", "K-", "~", "lock(a,K)",
+        "lock(a, K)",
+        "lock(a,K", "lock(a,K))", "(a)", "a,", "lock", "lock()", "half(half(a))", "half(" * 200 + "a" + ")" * 200,
+        "(" * 200, "lock(" * 200 + "x" * 2800, "x" * 4000, "kind\n" * 800, "row 0", "row 1\na", (), [], {}, ("a",),
+        ["a"], {"a": 1}, (None,), ((),), ("lock", "a"), ("lock", "a", "K"), ("lock", "a", "K", "b"),
+        ["lock", "a", "K"],
+        ("lock", ["a"], "K"), ("none", "a"), (["lock"], "a", "K"), (("lock", "a", "K"), "K"), (True, "a"),
+        ({}, {}, {}),
+        ("part", 0), ("shown", 0), (("shown", 0),), (("shown", True),), ("had", (("shown", 0),)), ("closed", ()),
+        ("closed", ("K",)), ("alike", ()), ("comes", ()), ("same", (), ()), ("alike", (("a", "a"),)), deep,
+        nested("a", 40), nested([], 40), tuple(range(2000)), ["a"] * 2000, ("a",) * 2000, (("a", "a"),) * 500,
+        STD, WIDE, ROW, BadText(3), (STD, ROW), ("half", ROW), ("half", STD), (ROW, ROW, ROW), ((STD,), 1),
+        (ROW, (("shown", 0),)), ("had", ROW), (STD, ()), ("alike", ((STD, ROW),)), ("closed", (ROW,)),
+    ]
+
+
+def variants(value):
+    """A valid value with one part replaced, left out or repeated, and with tuples turned into lists."""
+    fresh = [None, True, 1, 10 ** 39, "", "a", "K", "lock", (), [], ["a"], ("lock", "a", "K"), STD]
+    found = list(fresh)
+    if isinstance(value, tuple):
+        found.append(list(value))
+        for at, part in enumerate(value):
+            found.append(value[:at] + value[at + 1:])
+            found.append(value[:at] + (part, part) + value[at + 1:])
+            for other in variants(part):
+                found.append(value[:at] + (other,) + value[at + 1:])
+    return found
+
+
+def random_book(rng):
+    """A book with a few kinds and openings."""
+    words = sorted(rng.sample(["bag", "cap", "hat", "ink", "jar", "tin", "urn", "vat"], rng.randint(1, 5)))
+    kinds = tuple([(word, rng.choice((1, 1, 2, 2, 3))) for word in words])
+    counts = dict(kinds)
+    single = [kind for kind in words if counts[kind] == 1]
+    openings = []
+    for word in sorted(rng.sample(["da", "du", "fa", "fu", "ga", "gu", "ha", "hu"], rng.randint(0, 8))):
+        kind = rng.choice(words)
+        needs = tuple([random_need(rng, counts[kind], single) for _ in range(rng.choice((0, 0, 1, 1, 1, 2)))])
+        openings.append((word, kind, rng.randrange(counts[kind]), needs))
+    return Book(kinds, tuple(openings))
+
+
+def random_need(rng, count, single):
+    """A need of an opening of a kind with count parts."""
+    sort = rng.choice(("part", "part", "around", "inside")) if single else "part"
+    if sort == "part":
+        return "part", rng.randrange(count)
+    if sort == "around":
+        return "around", rng.choice(single), rng.randrange(count)
+    return "inside", rng.randrange(count), rng.choice(single)
+
+
+def random_thing(rng, book, depth, leaves=("a", "b", "K", "L", "M1")):
+    """A thing of a book, at most so deep."""
+    if depth == 0 or rng.random() < 0.35:
+        return rng.choice(leaves)
+    kind, count = rng.choice(book.kinds)
+    return (kind, *[random_thing(rng, book, depth - 1, leaves) for _ in range(count)])
+
+
+def random_row(rng, book, most=5, depth=3):
+    """A row of a few things; locks find keys now and then, as there are few names."""
+    return Row(book, tuple([random_thing(rng, book, rng.randint(0, depth)) for _ in range(rng.randint(0, most))]))
+
+
+def changed_row(rng, row):
+    """A row with as many things, often alike: names exchanged, or one thing changed."""
+    things = list(row.things)
+    pick = rng.random()
+    if pick < 0.35:
+        order = list(row.names)
+        rng.shuffle(order)
+        table = dict(zip(row.names, order))
+        return Row(row.book, tuple([slow_swapped(thing, table) for thing in things]))
+    if things:
+        at = rng.randrange(len(things))
+        if pick < 0.65 and row.names:
+            things[at] = slow_swapped(things[at], {rng.choice(row.names): random_thing(rng, row.book, 1)})
+        else:
+            things[at] = random_thing(rng, row.book, 2)
+    return Row(row.book, tuple(things))
+
+
+def slow_swapped(thing, table):
+    """A thing with others in the place of names."""
+    if isinstance(thing, str):
+        return table.get(thing, thing)
+    return (thing[0], *[slow_swapped(part, table) for part in thing[1:]])
+
+
+def slow_text(thing):
+    """The text of a thing as [4] says."""
+    return thing if isinstance(thing, str) else thing[0] + "(" + ",".join(map(slow_text, thing[1:])) + ")"
+
+
+def slow_pieces(thing):
+    """All pieces of a thing as [4] says, each as often as it stands in it."""
+    return [thing] + ([] if isinstance(thing, str) else [piece for part in thing[1:] for piece in slow_pieces(part)])
+
+
+def is_small(text):
+    """Whether a string is a word, a name being given."""
+    return text[0].islower()
+
+
+def made_of(thing, things):
+    """[8]: whether a thing is made of some things."""
+    if thing in things:
+        return True
+    if isinstance(thing, str):
+        return is_small(thing)
+    return all(made_of(part, things) for part in thing[1:])
+
+
+def slow_needed(book, opening, thing):
+    """[5]: what an opening needs at a thing of its kind."""
+    found = []
+    for need in [row for row in book.openings if row[0] == opening][0][3]:
+        if need[0] == "part":
+            found.append(thing[1:][need[1]])
+        elif need[0] == "around":
+            found.append((need[1], thing[1:][need[2]]))
+        else:
+            part = thing[1:][need[1]]
+            if isinstance(part, str) or part[0] != need[2]:
+                return None
+            found.append(part[1])
+    return tuple(found)
+
+
+def slow_uses(book, thing):
+    """(opening, needed, given) for all openings of a thing's kind whose needed things there are."""
+    if isinstance(thing, str):
+        return []
+    ways = [row for row in book.openings if row[1] == thing[0]]
+    uses = [(row[0], slow_needed(book, row[0], thing), thing[1:][row[2]]) for row in ways]
+    return [use for use in uses if use[1] is not None]
+
+
+def slow_got(row):
+    """[8]: the got things, in order."""
+    got = []
+    for thing in row.things:
+        if thing not in got:
+            got.append(thing)
+    while True:
+        for given in [use[2] for thing in got for use in slow_uses(row.book, thing)
+                      if use[2] not in got and all(made_of(needed, got) for needed in use[1])]:
+            got.append(given)
+            break
+        else:
+            return got
+
+
+def slow_value(row, recipe):
+    """[7]: what a recipe comes to, None if to nothing."""
+    values = []
+    for step in recipe:
+        named = [values[k] for k in step[2]] if len(step) == 3 else []
+        if step[0] == "shown":
+            values.append(row.things[step[1]])
+        elif step[0] == "word":
+            values.append(step[1])
+        elif None in named:
+            values.append(None)
+        elif step[0] == "make":
+            values.append((step[1], *named))
+        else:
+            uses = {use[0]: use for use in slow_uses(row.book, named[0])}
+            use = uses.get(step[1])
+            values.append(use[2] if use and use[1] == tuple(named[1:]) else None)
+    return values[-1]
+
+
+def slow_picture(row):
+    """[12]: the picture of a row."""
+    got = slow_got(row)
+    boxes = slow_boxes(row)
+
+    def shapes(things):
+        return tuple(slow_shape(boxes, thing) for thing in things)
+
+    opened = []
+    for box in boxes:
+        uses = [use for use in slow_uses(row.book, box) if all(made_of(needed, got) for needed in use[1])]
+        opened.append(tuple((word, shapes(needed), slow_shape(boxes, given)) for word, needed, given in uses))
+    return shapes(row.things), tuple(opened)
+
+
+def slow_shape(boxes, thing):
+    """[12]: the shape of a thing that can be had."""
+    if thing in boxes:
+        return boxes.index(thing)
+    return thing if isinstance(thing, str) else (thing[0], *[slow_shape(boxes, part) for part in thing[1:]])
+
+
+def slow_boxes(row):
+    """[12]: the basic things in the order in which they are got."""
+    got = slow_got(row)
+    found = []
+    for thing in got:
+        if isinstance(thing, str):
+            basic = not is_small(thing)
+        else:
+            basic = not all(made_of(part, got) for part in thing[1:])
+        if basic:
+            found.append(thing)
+    return found
+
+
+def slow_closed(row, about, things):
+    """[9]: whether an ascending tuple of things shows that a thing cannot be had."""
+    if not all(made_of(thing, things) for thing in row.things) or made_of(about, things):
+        return False
+    for thing in things:
+        for _, needed, given in slow_uses(row.book, thing):
+            if all(made_of(part, things) for part in needed) and not made_of(given, things):
+                return False
+    return True
+
+
+def slow_partner(thing, table):
+    """[13]: the partner of a thing, None if there is none; table is a list of pairs."""
+    for ahead, behind in table:
+        if ahead == thing:
+            return behind
+    if isinstance(thing, str):
+        return thing if is_small(thing) else None
+    parts = [slow_partner(part, table) for part in thing[1:]]
+    return None if None in parts else (thing[0], *parts)
+
+
+def slow_alike(one, other, pairs):
+    """[13]: whether an ascending tuple of pairs of things shows that two rows are alike."""
+    turned = [(right, left) for left, right in pairs]
+    for at, (left, right) in enumerate(pairs):
+        if left in [pair[0] for pair in pairs[:at]] or right in [pair[1] for pair in pairs[:at]]:
+            return False
+    if [slow_partner(thing, pairs) for thing in one.things] != list(other.things):
+        return False
+    return slow_mirrored(one.book, pairs) and slow_mirrored(one.book, turned)
+
+
+def slow_mirrored(book, pairs):
+    """[13]: the second and the third rule from one side."""
+    for left, right in pairs:
+        if isinstance(left, str):
+            if is_small(left) and left != right:
+                return False
+            continue
+        parts = [slow_partner(part, pairs) for part in left[1:]]
+        if None not in parts and right != (left[0], *parts):
+            return False
+        for word, needed, given in slow_uses(book, left):
+            wanted = [slow_partner(part, pairs) for part in needed]
+            if None in wanted:
+                continue
+            if isinstance(right, str) or right[0] != left[0]:
+                return False
+            uses = {use[0]: use for use in slow_uses(book, right)}
+            if word not in uses or list(uses[word][1]) != wanted or slow_partner(given, pairs) != uses[word][2]:
+                return False
+    return True
+
+
+def values_by_size(rows, words, most):
+    """What recipes come to at some rows, by their written-out sizes up to most; only those that come at all."""
+    book = rows[0].book
+    by_size = {1: {tuple(row.things[at] for row in rows) for at in range(len(rows[0]))}}
+    by_size[1] |= {(word,) * len(rows) for word in words}
+    failed = False
+    for size in range(2, most + 1):
+        by_size[size] = set()
+        for kind, count in book.kinds:
+            for parts in chosen(by_size, size - 1, count):
+                by_size[size].add(tuple((kind, *[part[at] for part in parts]) for at in range(len(rows))))
+        for word, kind, _, needs in book.openings:
+            for parts in chosen(by_size, size - 1, 1 + len(needs)):
+                ends = []
+                for at, row in enumerate(rows):
+                    uses = {use[0]: use for use in slow_uses(book, parts[0][at])}
+                    use = uses.get(word)
+                    comes = use is not None and list(use[1]) == [part[at] for part in parts[1:]]
+                    ends.append(use[2] if comes else None)
+                if None not in ends:
+                    by_size[size].add(tuple(ends))
+                elif any(end is not None for end in ends):
+                    failed = True
+    return by_size, failed
+
+
+def chosen(by_size, total, count):
+    """All ways to choose count values whose sizes are so many together."""
+    if count == 0:
+        return [()] if total == 0 else []
+    found = []
+    for size in range(1, total - count + 2):
+        for rest in chosen(by_size, total - size, count - 1):
+            found.extend([(value, *rest) for value in by_size.get(size, ())])
+    return found
+
+
+def same_rng(number):
+    """A random source that tells the same each time."""
+    return random.Random(number)

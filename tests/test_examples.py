@@ -1,0 +1,72 @@
+"""[35] and the words of [4] to [14]: the examples that speak of rows."""
+
+import unittest
+
+from circlekeep.having import basis, is_had
+from circlekeep.likeness import compare, compare_holds, is_alike
+from circlekeep.pairlots import core_of, pair_lot
+from circlekeep.rows import Row
+from helper import STD
+
+
+def row(*things):
+    return Row(STD, things)
+
+
+S_LOCKED = ("lock", "s", "K")
+T_LOCKED = ("lock", "t", "K")
+U_LOCKED = ("lock", "u", "K")
+
+
+class RoomTest(unittest.TestCase):
+    """What member 1 sees in the circle ROOM."""
+
+    def test_locked_words_look_alike_without_the_key(self):
+        # Behind post and behind hand it saw one thing that it cannot open.
+        self.assertTrue(is_alike(row(S_LOCKED), row("K")))
+        self.assertTrue(is_alike(row(S_LOCKED), row(T_LOCKED)))
+
+    def test_with_the_key_the_words_are_known(self):
+        # Behind hand and post it can open the second thing by the first one.
+        self.assertFalse(is_alike(row("K", S_LOCKED), row("K", T_LOCKED)))
+        self.assertFalse(is_alike(row("K", T_LOCKED), row(S_LOCKED, S_LOCKED)))
+        self.assertTrue(is_had(row("K", T_LOCKED), "t"))
+
+    def test_another_word_in_the_locks(self):
+        # The circle TWO: behind post and hand the first thing opened is s, in TWO it is u.
+        self.assertTrue(is_alike(row(S_LOCKED), row(U_LOCKED)))
+        self.assertFalse(is_alike(row(S_LOCKED, "K"), row(U_LOCKED, "K")))
+        paper = compare(row(S_LOCKED, "K"), row(U_LOCKED, "K"))
+        self.assertEqual(paper[0], "same")
+        self.assertTrue(compare_holds(row(S_LOCKED, "K"), row(U_LOCKED, "K"), paper))
+
+    def test_member_0_has_the_key_all_along(self):
+        self.assertFalse(is_alike(row("K", S_LOCKED), row("K", U_LOCKED)))
+
+
+class SharesTest(unittest.TestCase):
+
+    def test_shares_of_the_example(self):
+        shares = (("lock", ("lock", "S", "K0"), "K1"), ("lock", "S", "K2"))
+        for keys, wanted in ((("K0", "K1"), True), (("K2",), True), (("K0",), False), (("K1",), False), ((), False)):
+            self.assertEqual(is_had(row(*keys, *shares), "S"), wanted)
+            if not wanted:
+                self.assertTrue(is_alike(row(*keys, *shares), row(*keys, *shares).replaced("S", "Z")))
+        self.assertTrue(is_had(row("K0", "K1", *shares), "S"))
+
+
+class WordsOfTheDocumentTest(unittest.TestCase):
+
+    def test_what_is_made_is_not_basic(self):
+        locked = ("lock", "a", "K")
+        self.assertNotIn(locked, basis(row(locked, "K")))
+        self.assertIn(locked, basis(row(locked)))
+
+    def test_core_of_rows_however_long(self):
+        one = row(*[S_LOCKED, "L", "a"] * 4)
+        other = row(*["M", U_LOCKED, "a"] * 4)
+        self.assertEqual(core_of(STD, pair_lot(one, other)), (("L", U_LOCKED), (S_LOCKED, "M")))
+
+
+if __name__ == "__main__":
+    unittest.main()

@@ -1,0 +1,115 @@
+"""[34]: names and parameters of the interface; answers that stay; arguments that are not changed."""
+
+import copy
+import inspect
+import unittest
+
+from circlekeep import books, having, likeness, pairlots, pictures, recipes, rows, things
+from helper import ROW, STD, any_values
+
+LOCK = ("lock", "s", "K")
+OTHER = rows.Row(STD, (("lock", "s", "L"), "L"))
+LOT = (("K", "L"), (LOCK, ("lock", "s", "L")))
+RECIPE = (("shown", 0), ("shown", 1), ("open", "open", (0, 1)))
+
+# For each function its module, its parameters in order, and valid arguments.
+FUNCTIONS = (
+    (things.is_word, "thing", ("a",)), (things.is_name, "thing", ("K",)), (things.text_of, "thing", (LOCK,)),
+    (things.pieces_of, "thing", (LOCK,)), (things.size_of, "thing", (LOCK,)), (things.names_in, "thing", (LOCK,)),
+    (things.replaced, "thing name other", (LOCK, "K", LOCK)),
+    (books.standard_book, "", ()), (books.Book, "kinds openings", (STD.kinds, STD.openings)),
+    (rows.Row, "book things", (STD, (LOCK, "K"))),
+    (recipes.is_recipe, "row thing", (ROW, RECIPE)), (recipes.value_of, "row recipe", (ROW, RECIPE)),
+    (recipes.written_size, "recipe", (RECIPE,)), (recipes.recipe_text, "recipe", (RECIPE,)),
+    (having.got_things, "row", (ROW,)), (having.basis, "row", (ROW,)), (having.is_had, "row thing", (ROW, "s")),
+    (having.judge, "row thing", (ROW, "S")), (having.recipe_for, "row thing", (ROW, "s")),
+    (having.least_size, "row thing", (ROW, "s")),
+    (having.judge_holds, "row about thing", (ROW, "s", ("had", RECIPE))), (having.has_all, "row other", (ROW, OTHER)),
+    (pictures.picture, "row", (ROW,)), (pictures.boxes_of, "row", (ROW,)),
+    (pictures.shape_of, "row thing", (ROW, LOCK)),
+    (likeness.is_alike, "one other", (ROW, OTHER)), (likeness.compare, "one other", (ROW, OTHER)),
+    (likeness.compare_holds, "one other thing", (ROW, OTHER, ("alike", (("K", "L"),)))),
+    (pairlots.is_pair_lot, "book thing", (STD, LOT)), (pairlots.pair_lot, "one other", (ROW, OTHER)),
+    (pairlots.is_even, "book pairs", (STD, LOT)), (pairlots.core_of, "book pairs", (STD, LOT)),
+    (pairlots.joined, "book core thing other", (STD, (("K", "L"),), LOCK, ("lock", "s", "L"))),
+)
+
+# For each method an object, its name, its parameters in order, and valid arguments.
+METHODS = (
+    (STD, "is_thing", "thing", (LOCK,)), (STD, "read_thing", "text", ("lock(s,K)",)),
+    (STD, "needed", "opening thing", ("open", LOCK)), (books.Book, "read", "text", (str(STD),)),
+    (ROW, "with_thing", "thing", (LOCK,)), (ROW, "only", "places", ((1,),)),
+    (ROW, "replaced", "name thing", ("K", LOCK)), (rows.Row, "read", "book text", (STD, str(ROW))),
+)
+SPECIAL = ((books.Book, ("__eq__", "__str__", "is_thing", "read_thing", "needed", "read", "__init__")),
+           (rows.Row, ("__eq__", "__str__", "__len__", "__iter__", "__add__", "with_thing", "only", "replaced", "read",
+                       "__init__")))
+
+
+class InterfaceTest(unittest.TestCase):
+
+    def test_each_is_defined_where_it_is_listed(self):
+        for module in (things, books, rows, recipes, having, pictures, likeness, pairlots):
+            for function, _, _ in FUNCTIONS:
+                if function.__module__ == module.__name__:
+                    self.assertIs(getattr(module, function.__name__), function)
+        for function, _, _ in FUNCTIONS:
+            self.assertTrue(function.__module__.startswith("circlekeep."))
+        for made, names in SPECIAL:
+            for name in names:
+                self.assertIn(name, vars(made))
+
+    def check_call(self, function, words, arguments):
+        words = words.split()
+        self.assertEqual(list(inspect.signature(function).parameters), words)
+        kept = copy.deepcopy(arguments)
+        by_position = function(*arguments)
+        self.assertEqual(function(**dict(zip(words, arguments))), by_position)
+        self.assertEqual(function(*copy.deepcopy(arguments)), by_position)
+        self.assertEqual(function(*arguments), by_position)
+        self.assertEqual(arguments, kept)
+        for argument, before in zip(arguments, kept):
+            if isinstance(argument, (books.Book, rows.Row)):
+                self.assertEqual(vars(argument), vars(before))
+
+    def test_functions_by_position_and_by_name(self):
+        for function, words, arguments in FUNCTIONS:
+            self.check_call(function, words, arguments)
+
+    def test_methods_by_position_and_by_name(self):
+        for owner, name, words, arguments in METHODS:
+            before = vars(copy.deepcopy(owner)) if not isinstance(owner, type) else None
+            self.check_call(getattr(owner, name), words, arguments)
+            if before is not None:
+                self.assertEqual(vars(owner), before)
+
+    def test_any_value_stays_as_it_is(self):
+        for value in any_values():
+            kept = copy.deepcopy(value)
+            for ask in (STD.is_thing, things.is_word, things.is_name):
+                ask(value)
+            for ask, arguments in ((recipes.is_recipe, (ROW,)), (having.is_had, (ROW,)),
+                                   (having.judge_holds, (ROW, "s")),
+                                   (likeness.compare_holds, (ROW, OTHER)), (pairlots.is_pair_lot, (STD,))):
+                self.assertIn(ask(*arguments, value), (True, False))
+            if not isinstance(value, Exception):
+                self.assertEqual(value, kept)
+
+    def test_answers_are_tuples(self):
+        self.assertIsInstance(things.pieces_of(LOCK), tuple)
+        for answer in (having.got_things(ROW), having.basis(ROW), pictures.picture(ROW), pictures.boxes_of(ROW),
+                       having.judge(ROW, "s"), having.judge(ROW, "S"), having.recipe_for(ROW, "s"), ROW.names,
+                       ROW.pieces,
+                       likeness.compare(ROW, OTHER), pairlots.core_of(STD, LOT), pairlots.pair_lot(ROW, OTHER)):
+            self.check_tuples(answer)
+
+    def check_tuples(self, answer):
+        self.assertIsInstance(answer, (tuple, str, int))
+        self.assertNotIsInstance(answer, bool)
+        if isinstance(answer, tuple):
+            for part in answer:
+                self.check_tuples(part)
+
+
+if __name__ == "__main__":
+    unittest.main()

@@ -1,0 +1,113 @@
+"""[2]: valid arguments at the limits are answered, and without long waiting (a slow way would never end here)."""
+
+import unittest
+
+from circlekeep.books import Book
+from circlekeep.having import basis, got_things, has_all, judge, judge_holds, least_size, recipe_for
+from circlekeep.likeness import compare, compare_holds, is_alike
+from circlekeep.pairlots import core_of, joined, pair_lot
+from circlekeep.pictures import picture
+from circlekeep.recipes import is_recipe, value_of, written_size
+from circlekeep.rows import Row
+from circlekeep.things import size_of, text_of
+from helper import STD, slow_got, slow_picture
+
+GRAND = Book(
+    (("a", 3), ("b", 3), ("c", 3), ("d", 2), ("e", 1), ("f", 1), ("g", 2), ("h", 1)),
+    tuple(sorted([
+        ("oa", "a", 0, (("part", 1), ("around", "e", 2))), ("ob", "a", 1, (("inside", 2, "f"), ("part", 0))),
+        ("oc", "a", 2, ()), ("od", "b", 0, (("around", "f", 1), ("around", "h", 2))), ("oe", "b", 1, (("part", 2),)),
+        ("of", "b", 2, ()), ("og", "c", 0, (("part", 0), ("part", 0))), ("oh", "c", 2, (("inside", 1, "e"),)),
+        ("oi", "d", 0, (("part", 1),)), ("oj", "d", 1, ()), ("ok", "g", 0, ()), ("ol", "h", 0, ())])))
+
+
+def grand_row():
+    """Twelve things with 120 pieces, each of which opens the next one, the last one first."""
+    things = []
+    for at in range(11):
+        inner = ("d", ("e", f"S{at}"), f"K{at + 1}")
+        things.append(("a", inner, f"K{at}", ("f", ("g", "z", f"K{at}"))))
+    return Row(GRAND, (*things[::-1], "K0"))
+
+
+def deep_row():
+    """Things twelve deep, locked within each other."""
+    thing = "S"
+    for at in range(11):
+        thing = ("lock", thing, f"K{at}")
+    return Row(STD, (thing, *[f"K{at}" for at in range(11)]))
+
+
+class LimitsTest(unittest.TestCase):
+
+    def check_row(self, row, secret):
+        self.assertEqual(list(got_things(row)), slow_got(row))
+        self.assertEqual(picture(row), slow_picture(row))
+        self.assertTrue(judge_holds(row, secret, judge(row, secret)))
+        recipe = recipe_for(row, secret)
+        self.assertTrue(is_recipe(row, recipe))
+        self.assertEqual(value_of(row, recipe), secret)
+        self.assertEqual(written_size(recipe), least_size(row, secret))
+        self.assertTrue(judge_holds(row, "None", judge(row, "None")))
+        self.assertTrue(has_all(row, Row(row.book, basis(row))))
+
+    def check_pair(self, row, other, alike):
+        self.assertEqual(is_alike(row, other), alike)
+        self.assertTrue(compare_holds(row, other, compare(row, other)))
+        core = core_of(row.book, pair_lot(row, other))
+        self.assertEqual(core is not None, alike)
+        found = ()
+        for left, right in zip(row, other):
+            found = None if found is None else joined(row.book, found, left, right)
+        self.assertEqual(found, core)
+
+    def test_grand_row(self):
+        row = grand_row()
+        self.assertGreater(sum(size_of(thing) for thing in row), 100)
+        self.check_row(row, "K0")
+        self.check_row(row, ("e", "K0"))
+        self.check_pair(row, row, True)
+        self.check_pair(row, row.replaced("S3", "X"), True)
+        self.check_pair(row, row.replaced("S3", "S4"), is_alike(row, row.replaced("S3", "S4")))
+        self.check_pair(row, row.replaced("K3", "K4"), False)
+
+    def test_deep_row(self):
+        row = deep_row()
+        self.check_row(row, "S")
+        self.check_pair(row, row.replaced("S", "X"), True)
+        self.check_pair(row, row.replaced("S", "x"), False)
+        self.check_pair(row, row.replaced("K5", ("lock", "a", "K12")), True)
+
+    def test_sixty_pieces_that_are_all_made(self):
+        whole = ("pair", "K", "a")
+        while size_of(whole) < 58:
+            whole = ("pair", whole, "L")
+        row = Row(STD, (whole, whole))
+        self.check_row(row, whole)
+        self.check_pair(row, row.replaced("L", "M"), True)
+
+    def test_many_things_that_the_program_made_itself(self):
+        # What it returned may be passed on whatever its size.
+        row = Row(STD, ("K", ("lock", "s", "K")) * 150)
+        self.check_row(row, "s")
+        self.check_pair(row, row.replaced("K", "L"), True)
+        deep = value_of(row, (("shown", 0), *[("make", "half", (at,)) for at in range(199)]))
+        self.assertEqual(size_of(deep), 200)
+        self.assertEqual(STD.read_thing(text_of(deep)), deep)
+        self.check_row(Row(STD, (deep,)), deep)
+        self.check_pair(Row(STD, (deep,)), Row(STD, (deep,)).replaced("K", "L"), True)
+
+    def test_papers_of_great_things(self):
+        # The plain ways of the one row come to things at the other one that grow with each step.
+        inner = "a"
+        for _ in range(28):
+            inner = ("pair", inner, inner) if size_of(inner) < 15 else ("half", inner)
+        one = Row(STD, (inner, "K"))
+        other = Row(STD, ("K", inner))
+        paper = compare(one, other)
+        self.assertTrue(compare_holds(one, other, paper))
+        self.assertNotEqual(paper[0], "alike")
+
+
+if __name__ == "__main__":
+    unittest.main()
