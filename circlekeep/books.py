@@ -57,7 +57,6 @@ class Book:
         """The thing with a text, None for any other value."""
         if not isinstance(text, str):
             return None
-        # What is put together may be wrong: then it is no thing, or has another text.
         thing = put_together(text)
         return thing if self.is_thing(thing) and text_of(thing) == text else None
 
@@ -82,7 +81,7 @@ class Book:
 
 
 def put_together(text):
-    """The thing that the brackets of a text form, or None; it is right only if its text is this text."""
+    """What the brackets of a text form at first, or None; it is right only if it is a thing with this text."""
     levels = [[]]
     word = ""
     for sign in f"{text},":
@@ -100,7 +99,7 @@ def put_together(text):
                 levels[-1].append(whole)
         else:
             word += sign
-    return levels[0][0] if len(levels) == 1 and len(levels[0]) == 1 else None
+    return levels[0][0] if levels[0] else None
 
 
 def needed_thing(need, thing):

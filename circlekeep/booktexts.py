@@ -33,9 +33,9 @@ def needs_in(parts):
 
 
 def kind_in(parts):
-    """The pair of a kind's line, None if it is no such line."""
+    """The pair of a line that begins with kind, None if the rest of it is not as it should be."""
     pair = tuple(parts[1:])
-    return pair if parts[0] == "kind" and is_kind(pair) else None
+    return pair if is_kind(pair) else None
 
 
 def opening_in(parts, counts):

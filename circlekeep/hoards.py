@@ -41,10 +41,9 @@ class Hoard:
         return bool(parts) and all([self.had[part] for part in parts])
 
     def gain(self, number):
-        """Note that a thing is got; got has the numbers in the order in which they are got."""
-        if number not in self.got:
-            self.got[number] = True
-            self.mark(number)
+        """Note that a thing is got; got has the numbers in the order in which they were got first."""
+        self.got[number] = True
+        self.mark(number)
 
     def collect(self):
         """Get all that openings give, each time by the first one that gives something new."""
@@ -81,8 +80,8 @@ class Hoard:
         return self.had[self.number_of(thing)]
 
     def is_basic(self, number):
-        """Whether the thing with a number can be had and is a name, or has a part that cannot be had."""
-        return number in self.got and not self.is_made(number) and not is_word(self.ledger.entries[number])
+        """Whether a got thing is a name, or has a part that cannot be had."""
+        return not self.is_made(number) and not is_word(self.ledger.entries[number])
 
     def boxes(self):
         """The numbers of the basic things, in the order in which they are got."""

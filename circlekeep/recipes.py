@@ -15,7 +15,7 @@ def are_numbers(value, count, below):
 
 def is_step(row, step, place):
     """Whether any value is a step that can stand at a place in a recipe for a row."""
-    if not isinstance(step, tuple) or not 2 <= len(step) <= 3 or not isinstance(step[0], str):
+    if not isinstance(step, tuple) or not 2 <= len(step) <= 3:
         return False
     if len(step) == 2:
         return (step[0] == "shown" and is_whole(step[1], 0, len(row))) or (step[0] == "word" and is_word(step[1]))

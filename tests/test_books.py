@@ -71,7 +71,8 @@ class BookTest(unittest.TestCase):
                      ("around", 0, "one"), ("around", ["one"], 0), ("around", None, 0), ("around", 0),
                      ("inside", 2, "one"), ("inside", 0, "two"), ("inside", 0, "none"), ("inside", False, "one"),
                      ("inside", "one", 0), ("inside", 0, ["one"]), ("inside", 0), ("part", 0, "one"), (None, 0),
-                     (["part"], 0), (ROW, 0), (0, "part"), "part"):
+                     (["part"], 0), (ROW, 0), (0, "part"), "part", ("outside", 0, "one"), ("part", 0, "one"),
+                     ("around", "one", -1), ("inside", -1, "one"), ("", 0, "one"), (0, "one", "inside")):
             self.bad("openings", kinds, (("b", "two", 0, (need,)),))
         self.bad("openings", kinds, (("b", "one", 0, (("part", 1),)),))
 
@@ -173,6 +174,9 @@ class BookTest(unittest.TestCase):
         self.assertEqual(STD.needed("unseal", ("seal", "a", ("half", "K"))), ("K",))
         for part in ("K", "half", "a", ("mark", "K"), ("lock", "half", "K")):
             self.assertIsNone(STD.needed("unseal", ("seal", "a", part)))
+        book = Book((("h", 1), ("two", 2)), (("b", "two", 0, (("inside", 1, "h"),)),))
+        self.assertIsNone(book.needed("b", ("two", "a", "hat")))
+        self.assertEqual(book.needed("b", ("two", "a", ("h", "at"))), ("at",))
         self.assertEqual(WIDE.needed("dump", ("urn", "a", "b", "c")), ("a", "c"))
         self.assertEqual(WIDE.needed("fish", ("bag", "a", ("hat", "b"), "c")), (("cap", "a"), "b"))
         self.assertIsNone(WIDE.needed("fish", ("bag", "a", ("cap", "b"), "c")))

@@ -195,6 +195,8 @@ class PaperTest(unittest.TestCase):
                        (locked, None),
                        (locked, ["zz"]), (locked, ""), (locked, ("tin", "a")), (locked, ("half",)), ("K",)):
             self.assertIs(judge_holds(row, "S", ("closed", things)), False)
+        for word in ("had", "Closed", "open", None, ("closed",), 0):
+            self.assertIs(judge_holds(row, "S", (word, (locked,))), False)
         # Its parts can be made, though it stands nowhere in the row, and it is closed without its own parts.
         self.assertIs(judge_holds(row, "S", ("closed", (locked, ("pair", "a", "b")))), True)
         self.assertIs(judge_holds(row, "S", ("closed", (locked, ("pair", "a", "L")))), False)
@@ -248,6 +250,8 @@ class SizeTest(unittest.TestCase):
         self.assertEqual(least_size(row=Row(STD, (LOCK, "K")), thing=("pair", LOCK, LOCK)), 3)
         self.assertEqual(least_size(Row(STD, ("K",)), ("pair", ("half", "K"), ("half", "K"))), 5)
         self.assertEqual(recipe_for(Row(STD, ("K",)), "K"), (("shown", 0),))
+        self.assertEqual(recipe_for(ROW, "K"), (("shown", 1),))
+        self.assertEqual(recipe_for(ROW, ("mark", "K")), (("shown", 1), ("make", "mark", (0,))))
 
     def test_written_out_and_not_in_steps(self):
         # In few steps the key is got by way of a pair that is used twice; written out that is longer.

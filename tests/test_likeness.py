@@ -188,6 +188,16 @@ class HoldsTest(unittest.TestCase):
         self.holds(row("K", "L"), row(("lock", "a", "B"), "B"), ("alike", (("K", ("lock", "a", "B")), ("L", "B"))),
                    False)
 
+    def test_what_is_needed_has_to_be_the_partner(self):
+        # The parts K, L and M have no partners, so nothing but the third rule tells of them.
+        one = row(("sign", "m", "K"), ("half", "K"))
+        for key, wanted in (("M", True), ("L", False)):
+            other = row(("sign", "m", "M"), ("half", key))
+            pairs = ((("half", "K"), ("half", key)), (("sign", "m", "K"), ("sign", "m", "M")))
+            self.holds(one, other, ("alike", pairs), wanted)
+            self.holds(other, one, ("alike", tuple(sorted([pair[::-1] for pair in pairs], key=texts))), wanted)
+            self.assertEqual(is_alike(one, other), wanted)
+
     def test_pairs_whoever_made_them(self):
         rng = same_rng(23)
         told = {True: 0, False: 0}
@@ -220,7 +230,14 @@ class HoldsTest(unittest.TestCase):
         self.holds(one, other, ("same", (("word", "t"),), opened), False)
         self.holds(one, one, ("same", opened, (("word", "s"),)), False)
         self.holds(one, wrong, ("same", opened, (("word", "s"),)), False)
+        self.holds(wrong, one, ("same", opened, (("word", "s"),)), False)
+        self.holds(wrong, one, ("same", (("word", "s"),), opened), False)
+        self.holds(one, wrong, ("same", (("word", "s"),), opened), False)
         self.holds(wrong, wrong, ("same", opened, opened), False)
+        for word in ("Same", "comes", "alike", None, ("same",)):
+            self.holds(one, other, (word, opened, (("word", "s"),)), False)
+        for word in ("Comes", "same", "alike", None, ("comes",)):
+            self.holds(one, wrong, (word, opened), False)
         for paper in (("comes", opened, opened), ("comes",), ("same", opened), ("same", opened, (("word", "s"),), ()),
                       ["comes", opened],
                       ("comes", list(opened)), ("comes", ()), ("comes", (("shown", 2),)), ("alike", opened),
