@@ -15,8 +15,8 @@ BARRED = set("register mro elements open input law version_info with_traceback a
 LIBRARY = {"heapq": {"heappush", "heappop", "heapify", "heapreplace", "heappushpop"},
            "math": {"gcd", "lcm", "isqrt", "comb", "perm", "factorial"}}
 DUNDERS = {"__init__", "__eq__", "__repr__", "__str__", "__len__", "__iter__", "__add__"}
-NODES = (ast.Lambda, ast.Global, ast.AsyncFunctionDef, ast.Await, ast.Set, ast.GeneratorExp, ast.Try, ast.With,
-         ast.Import, ast.Yield, ast.YieldFrom, ast.NamedExpr, ast.Div, ast.Delete, ast.Match)
+# Rows are iterated over and have a length, so nothing of itertools may be used.
+NODES = (ast.Global, ast.AsyncFunctionDef, ast.Await, ast.Import, ast.Div)
 
 
 def trees():
