@@ -12,10 +12,10 @@ startswith strip update upper values zfill bit_length isascii add discard""".spl
 CALLED = set("""len range enumerate zip min max sum abs sorted reversed int str bool list tuple dict set isinstance ord repr any all
 divmod iter next Exception classmethod""".split())
 BARRED = set("register mro elements open input law version_info with_traceback add_note type typing enum".split())
+# Rows are iterated over and have a length, so nothing of itertools may be used.
 LIBRARY = {"heapq": {"heappush", "heappop", "heapify", "heapreplace", "heappushpop"},
            "math": {"gcd", "lcm", "isqrt", "comb", "perm", "factorial"}}
 DUNDERS = {"__init__", "__eq__", "__repr__", "__str__", "__len__", "__iter__", "__add__"}
-# Rows are iterated over and have a length, so nothing of itertools may be used.
 NODES = (ast.Global, ast.AsyncFunctionDef, ast.Await, ast.Import, ast.Div)
 
 
