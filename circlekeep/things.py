@@ -95,3 +95,9 @@ def swapped(thing, table):
 def replaced(thing, name, other):
     """A thing with another one in the place of a name, everywhere."""
     return swapped(thing, {name: other})
+
+
+def ascending(things):
+    """The ascending tuple of some things, each once."""
+    by_text = {text_of(thing): thing for thing in things}
+    return tuple([by_text[text] for text in sorted(list(by_text))])

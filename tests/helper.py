@@ -1,13 +1,19 @@
 """What the tests share: awkward values, random rows, and slow functions that follow the document word by word."""
 
+import itertools
 import random
 
 from circlekeep.books import Book, standard_book
+from circlekeep.circles import Circle
 from circlekeep.errors import BadText
 from circlekeep.rows import Row
 
 STD = standard_book()
 ROW = Row(STD, (("lock", "s", "K"), "K"))
+ROOM = Circle(STD, 2, 2, (
+    ("hand", 0, None, ((1, ("K", (1,))), None)),
+    ("post", 0, None, ((0, (("lock", "s", "K"), (0, 1))), (1, (("lock", "t", "K"), (0, 1))))),
+), (("K",), ()))
 
 # A book with all sorts of needs, two needs at once, a kind without openings, and openings that give words.
 WIDE = Book(
@@ -56,7 +62,8 @@ def any_values():
         ("part", 0), ("shown", 0), (("shown", 0),), (("shown", True),), ("had", (("shown", 0),)), ("closed", ()),
         ("closed", ("K",)), ("alike", ()), ("comes", ()), ("same", (), ()), ("alike", (("a", "a"),)), deep,
         nested("a", 40), nested([], 40), tuple(range(2000)), ["a"] * 2000, ("a",) * 2000, (("a", "a"),) * 500,
-        STD, WIDE, ROW, BadText(3), (STD, ROW), ("half", ROW), ("half", STD), (ROW, ROW, ROW), ((STD,), 1),
+        STD, WIDE, ROW, ROOM, BadText(3), (0, (("K",), ())), ("kept", ()), ("had", (), (("shown", 0),)), (0, ROOM),
+        ("kept", (((0, (("K",), ())), ()),)), ("covered", ()), ("tells", ()), ((0, 1),), (0, 1), (STD, ROW), ("half", ROW), ("half", STD), (ROW, ROW, ROW), ((STD,), 1),
         (ROW, (("shown", 0),)), ("had", ROW), (STD, ()), ("alike", ((STD, ROW),)), ("closed", (ROW,)),
     ]
 
@@ -352,3 +359,111 @@ def chosen(by_size, total, count):
 def same_rng(number):
     """A random source that tells the same each time."""
     return random.Random(number)
+
+
+POOL = ("K", "L", "M", "s", ("lock", "s", "K"), ("lock", "t", "K"), ("lock", "K", "L"), ("lock", ("pair", "L", "a"), "M"),
+        ("pair", "K", "L"), ("half", "K"), ("seal", "M", ("half", "K")), ("sign", "s", "K"), ("lock", "M", ("pair", "K", "s")),
+        ("mark", "K"), ("pair", "s", "M"), ("lock", "t", "t"))
+
+
+def random_circle(rng, states=3, deeds=3, members=3, firsts=2, pool=POOL, book=STD):
+    """A circle that has at most so many of all, over some things of a pool."""
+    many = rng.randint(1, members)
+    things = rng.sample(pool, min(rng.randint(1, 8), len(pool)))
+    groups = [group for size in range(1, many + 1) for group in itertools.combinations(range(many), size)]
+    size = rng.randint(1, states)
+
+    def move():
+        if rng.random() < 0.2:
+            return None
+        show = (rng.choice(things), rng.choice(groups)) if rng.random() < 0.75 else None
+        return rng.randrange(size), show
+
+    words = sorted(rng.sample(["ask", "bid", "cut", "dig", "eat", "fly"], rng.randint(0, deeds)))
+    done = [(word, rng.randrange(many), rng.choice(things) if rng.random() < 0.3 else None,
+             tuple([move() for _ in range(size)])) for word in words]
+    held = [tuple([rng.choice(things) for _ in range(rng.randint(0, firsts))]) for _ in range(many)]
+    return Circle(book, many, size, tuple(done), tuple(held))
+
+
+def all_groups(circle):
+    """All groups of a circle."""
+    members = range(circle.members)
+    return [group for size in range(1, circle.members + 1) for group in itertools.combinations(members, size)]
+
+
+def all_runs(circle, most):
+    """All runs of at most so many deeds, in the order of [20]."""
+    return [run for size in range(most + 1) for run in itertools.product(circle.names, repeat=size)]
+
+
+def slow_had(book, things, thing):
+    """[8]: whether a thing can be had of some things."""
+    return made_of(thing, slow_got(Row(book, tuple(things))))
+
+
+def slow_lot(things):
+    """[2]: things ascending, each once."""
+    return tuple(sorted([thing for at, thing in enumerate(things) if thing not in things[:at]], key=slow_text))
+
+
+def slow_start(circle):
+    """[16]: the world behind the empty run."""
+    return 0, tuple(slow_lot(things) for things in circle.firsts)
+
+
+def slow_step(circle, world, name):
+    """[16]: (world, show, whether it was open) of a deed that is done or tried in a world."""
+    state, lots = world
+    _, owner, need, moves = [deed for deed in circle.deeds if deed[0] == name][0]
+    if moves[state] is None or (need is not None and not slow_had(circle.book, lots[owner], need)):
+        return world, None, False
+    follow, show = moves[state]
+    if show is not None:
+        lots = tuple(slow_lot((*lot, show[0])) if at in show[1] else lot for at, lot in enumerate(lots))
+    return (follow, lots), show, True
+
+
+def slow_run(circle, run, group):
+    """[16]: the world behind a run, the things of the group's row, its seers."""
+    world = slow_start(circle)
+    things = [thing for member in group for thing in circle.firsts[member]]
+    told = [(member,) for member in group for _ in circle.firsts[member]]
+    for name in run:
+        world, show, _ = slow_step(circle, world, name)
+        if show is not None and set(show[1]) & set(group):
+            things.append(show[0])
+            told.append(tuple(member for member in group if member in show[1]))
+    return world, tuple(things), tuple(told)
+
+
+def slow_reached(circle):
+    """[16] [20]: the reached worlds, each with its first run, in the order of these."""
+    found = {slow_start(circle): ()}
+    waiting = list(found)
+    while waiting:
+        world = waiting.pop(0)
+        for name in circle.names:
+            follow = slow_step(circle, world, name)[0]
+            if follow not in found:
+                found[follow] = (*found[world], name)
+                waiting.append(follow)
+    return found
+
+
+def world_key(world):
+    """[16]: what worlds are ordered by."""
+    return world[0], tuple(tuple(slow_text(thing) for thing in lot) for lot in world[1])
+
+
+def pooled_things(world, group):
+    """What the members of a group have in a world."""
+    return slow_lot([thing for member in group for thing in world[1][member]])
+
+
+def slow_first(circle, group, thing):
+    """[19] [20]: the first run behind which a group can have a thing, None if there is none."""
+    for world, run in slow_reached(circle).items():
+        if slow_had(circle.book, pooled_things(world, group), thing):
+            return run
+    return None

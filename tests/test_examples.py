@@ -1,12 +1,16 @@
-"""[35] and the words of [4] to [14]: the examples that speak of rows."""
+"""[35] and the words of [4] to [20]: the examples that speak of rows, worlds, runs, shares and keeping."""
 
 import unittest
 
 from circlekeep.having import basis, is_had
+from circlekeep.keeping import first_run, holders, keeps
 from circlekeep.likeness import compare, compare_holds, is_alike
 from circlekeep.pairlots import core_of, pair_lot
 from circlekeep.rows import Row
-from helper import STD
+from circlekeep.runs import after, seen
+from circlekeep.shares import shares_of
+from circlekeep.worlds import start_of, worlds_of
+from helper import ROOM, STD
 
 
 def row(*things):
@@ -66,6 +70,25 @@ class WordsOfTheDocumentTest(unittest.TestCase):
         one = row(*[S_LOCKED, "L", "a"] * 4)
         other = row(*["M", U_LOCKED, "a"] * 4)
         self.assertEqual(core_of(STD, pair_lot(one, other)), (("L", U_LOCKED), (S_LOCKED, "M")))
+
+
+class CircleTest(unittest.TestCase):
+    """What is done in the circle ROOM."""
+
+    def test_worlds_and_runs(self):
+        self.assertEqual(start_of(ROOM), (0, (("K",), ())))
+        self.assertEqual(after(ROOM, ("post", "hand")), (1, (("K", S_LOCKED), ("K", S_LOCKED))))
+        self.assertEqual(seen(ROOM, ("post", "hand"), (1,)).things, (S_LOCKED, "K"))
+        self.assertEqual(len(worlds_of(ROOM)), 6)
+
+    def test_keeping(self):
+        self.assertIs(keeps(ROOM, (1,), "K"), False)
+        self.assertEqual(first_run(ROOM, (1,), "K"), ("hand",))
+        self.assertEqual(holders(ROOM, "K"), ((0,), (1,)))
+
+    def test_shares(self):
+        self.assertEqual(shares_of("S", ((0, 1), (2,)), ("K0", "K1", "K2")),
+                         (("lock", ("lock", "S", "K0"), "K1"), ("lock", "S", "K2")))
 
 
 if __name__ == "__main__":

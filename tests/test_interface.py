@@ -4,13 +4,16 @@ import copy
 import inspect
 import unittest
 
-from circlekeep import books, having, likeness, pairlots, pictures, recipes, rows, things
-from helper import ROW, STD, any_values
+from circlekeep import (books, circles, having, keeping, likeness, pairlots, pictures, recipes, rows, runs, shares, things,
+                        worlds)
+from helper import ROOM, ROW, STD, any_values
 
 LOCK = ("lock", "s", "K")
 OTHER = rows.Row(STD, (("lock", "s", "L"), "L"))
 LOT = (("K", "L"), (LOCK, ("lock", "s", "L")))
 RECIPE = (("shown", 0), ("shown", 1), ("open", "open", (0, 1)))
+START = (0, (("K",), ()))
+RUN = ("post", "hand")
 
 # For each function its module, its parameters in order, and valid arguments.
 FUNCTIONS = (
@@ -32,6 +35,24 @@ FUNCTIONS = (
     (pairlots.is_pair_lot, "book thing", (STD, LOT)), (pairlots.pair_lot, "one other", (ROW, OTHER)),
     (pairlots.is_even, "book pairs", (STD, LOT)), (pairlots.core_of, "book pairs", (STD, LOT)),
     (pairlots.joined, "book core thing other", (STD, (("K", "L"),), LOCK, ("lock", "s", "L"))),
+    (circles.Circle, "book members states deeds firsts", (STD, 2, 2, ROOM.deeds, ROOM.firsts)),
+    (worlds.is_world, "circle thing", (ROOM, START)), (worlds.start_of, "circle", (ROOM,)),
+    (worlds.is_open, "circle world name", (ROOM, START, "hand")),
+    (worlds.shown_by, "circle world name", (ROOM, START, "hand")),
+    (worlds.behind, "circle world name", (ROOM, START, "hand")),
+    (worlds.lot_row, "circle world group", (ROOM, START, (0, 1))), (worlds.worlds_of, "circle most", (ROOM, 6)),
+    (worlds.first_run_to, "circle world most", (ROOM, (1, (("K",), ("K",))), 6)),
+    (runs.is_run, "circle thing", (ROOM, RUN)), (runs.is_group, "circle thing", (ROOM, (0, 1))),
+    (runs.after, "circle run", (ROOM, RUN)), (runs.seen, "circle run group", (ROOM, RUN, (1,))),
+    (runs.seers, "circle run group", (ROOM, RUN, (0, 1))), (runs.run_text, "run", (RUN,)),
+    (runs.read_run, "circle text", (ROOM, "post hand")),
+    (shares.shares_of, "name groups keys", ("S", ((0, 1), (1,)), ("A", "B"))),
+    (shares.dealt, "name groups keys", ("S", ((0, 1), (1,)), ("A", "B"))),
+    (keeping.keeps, "circle group thing most", (ROOM, (1,), "K", 6)),
+    (keeping.judge_keeping, "circle group thing most", (ROOM, (1,), "L", 6)),
+    (keeping.first_run, "circle group thing most", (ROOM, (1,), "K", 6)),
+    (keeping.first_opening, "circle name most", (ROOM, "post", 6)),
+    (keeping.holders, "circle thing most", (ROOM, "K", 6)),
 )
 
 # For each method an object, its name, its parameters in order, and valid arguments.
@@ -40,16 +61,21 @@ METHODS = (
     (STD, "needed", "opening thing", ("open", LOCK)), (books.Book, "read", "text", (str(STD),)),
     (ROW, "with_thing", "thing", (LOCK,)), (ROW, "only", "places", ((1,),)),
     (ROW, "replaced", "name thing", ("K", LOCK)), (rows.Row, "read", "book text", (STD, str(ROW))),
+    (ROOM, "deed", "name", ("post",)), (ROOM, "renamed", "pairs", ((("K", "L"),),)), (ROOM, "turned", "order", ((1, 0),)),
+    (circles.Circle, "read", "text", (str(ROOM),)),
 )
 SPECIAL = ((books.Book, ("__eq__", "__str__", "is_thing", "read_thing", "needed", "read", "__init__")),
            (rows.Row, ("__eq__", "__str__", "__len__", "__iter__", "__add__", "with_thing", "only", "replaced", "read",
-                       "__init__")))
+                       "__init__")),
+           (circles.Circle, ("__eq__", "__str__", "deed", "renamed", "turned", "read", "__init__")))
+MODULES = (things, books, rows, recipes, having, pictures, likeness, pairlots, circles, worlds, runs, shares, keeping)
+CLASSES = (books.Book, rows.Row, circles.Circle)
 
 
 class InterfaceTest(unittest.TestCase):
 
     def test_each_is_defined_where_it_is_listed(self):
-        for module in (things, books, rows, recipes, having, pictures, likeness, pairlots):
+        for module in MODULES:
             for function, _, _ in FUNCTIONS:
                 if function.__module__ == module.__name__:
                     self.assertIs(getattr(module, function.__name__), function)
@@ -61,7 +87,10 @@ class InterfaceTest(unittest.TestCase):
 
     def check_call(self, function, words, arguments):
         words = words.split()
-        self.assertEqual(list(inspect.signature(function).parameters), words)
+        parameters = inspect.signature(function).parameters
+        self.assertEqual(list(parameters), words)
+        for word, parameter in parameters.items():
+            self.assertEqual(parameter.default, 200 if word == "most" else inspect.Parameter.empty)
         kept = copy.deepcopy(arguments)
         by_position = function(*arguments)
         self.assertEqual(function(**dict(zip(words, arguments))), by_position)
@@ -69,7 +98,7 @@ class InterfaceTest(unittest.TestCase):
         self.assertEqual(function(*arguments), by_position)
         self.assertEqual(arguments, kept)
         for argument, before in zip(arguments, kept):
-            if isinstance(argument, (books.Book, rows.Row)):
+            if isinstance(argument, CLASSES):
                 self.assertEqual(vars(argument), vars(before))
 
     def test_functions_by_position_and_by_name(self):
@@ -90,7 +119,8 @@ class InterfaceTest(unittest.TestCase):
                 ask(value)
             for ask, arguments in ((recipes.is_recipe, (ROW,)), (having.is_had, (ROW,)),
                                    (having.judge_holds, (ROW, "s")),
-                                   (likeness.compare_holds, (ROW, OTHER)), (pairlots.is_pair_lot, (STD,))):
+                                   (likeness.compare_holds, (ROW, OTHER)), (pairlots.is_pair_lot, (STD,)),
+                                   (worlds.is_world, (ROOM,)), (runs.is_run, (ROOM,)), (runs.is_group, (ROOM,))):
                 self.assertIn(ask(*arguments, value), (True, False))
             if not isinstance(value, Exception):
                 self.assertEqual(value, kept)
@@ -100,7 +130,13 @@ class InterfaceTest(unittest.TestCase):
         for answer in (having.got_things(ROW), having.basis(ROW), pictures.picture(ROW), pictures.boxes_of(ROW),
                        having.judge(ROW, "s"), having.judge(ROW, "S"), having.recipe_for(ROW, "s"), ROW.names,
                        ROW.pieces,
-                       likeness.compare(ROW, OTHER), pairlots.core_of(STD, LOT), pairlots.pair_lot(ROW, OTHER)):
+                       likeness.compare(ROW, OTHER), pairlots.core_of(STD, LOT), pairlots.pair_lot(ROW, OTHER),
+                       ROOM.names, worlds.start_of(ROOM), worlds.worlds_of(ROOM), worlds.behind(ROOM, START, "hand"),
+                       worlds.shown_by(ROOM, START, "hand"), worlds.first_run_to(ROOM, START), runs.after(ROOM, RUN),
+                       runs.seers(ROOM, RUN, (0, 1)), runs.read_run(ROOM, "post"), shares.shares_of("S", ((0,),), ("A",)),
+                       keeping.judge_keeping(ROOM, (1,), "K"), keeping.judge_keeping(ROOM, (1,), "L"),
+                       keeping.first_run(ROOM, (1,), "K"), keeping.first_opening(ROOM, "hand"),
+                       keeping.holders(ROOM, "K")):
             self.check_tuples(answer)
 
     def check_tuples(self, answer):

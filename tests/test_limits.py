@@ -3,14 +3,19 @@
 import unittest
 
 from circlekeep.books import Book
+from circlekeep.circles import Circle
+from circlekeep.errors import TooMany
 from circlekeep.having import basis, got_things, has_all, judge, judge_holds, least_size, recipe_for
+from circlekeep.keeping import first_opening, first_run, holders, judge_keeping, keeps
 from circlekeep.likeness import compare, compare_holds, is_alike
 from circlekeep.pairlots import core_of, joined, pair_lot
 from circlekeep.pictures import picture
 from circlekeep.recipes import is_recipe, value_of, written_size
 from circlekeep.rows import Row
+from circlekeep.runs import after, seen, seers
 from circlekeep.things import size_of, text_of
-from helper import STD, slow_got, slow_picture
+from circlekeep.worlds import behind, worlds_of
+from helper import STD, slow_got, slow_picture, slow_run
 
 GRAND = Book(
     (("a", 3), ("b", 3), ("c", 3), ("d", 2), ("e", 1), ("f", 1), ("g", 2), ("h", 1)),
@@ -107,6 +112,53 @@ class LimitsTest(unittest.TestCase):
         paper = compare(one, other)
         self.assertTrue(compare_holds(one, other, paper))
         self.assertNotEqual(paper[0], "alike")
+
+
+def grand_thing(number):
+    """A thing of twenty pieces."""
+    thing = ("lock", ("pair", f"S{number}", "a"), f"K{number}")
+    while size_of(thing) < 19:
+        thing = ("pair", thing, f"L{number}")
+    return ("half", thing) if size_of(thing) == 19 else thing
+
+
+def grand_circle():
+    """A circle with all that is allowed: each deed shows another thing in each state, to others each time."""
+    things = [grand_thing(number) for number in range(8)]
+    groups = ((0, 1), (2, 3), (0,), (1, 2, 3), (3,), (0, 2))
+    deeds = []
+    for at, name in enumerate("abcdef"):
+        shown = [(things[(at + 2 * state) % 7], groups[at]) if state % 3 == at % 2 else None for state in range(6)]
+        moves = tuple([((at + state + 1) % 6, show) for state, show in enumerate(shown)])
+        deeds.append((name, at % 4, things[6] if at == 5 else None, moves))
+    return Circle(STD, 4, 6, tuple(deeds), ((things[1], things[1]), (things[3],), (), (things[5],) * 12))
+
+
+class CircleTest(unittest.TestCase):
+
+    def test_grand_circle(self):
+        circle = grand_circle()
+        worlds = worlds_of(circle, 20000)
+        self.assertGreater(len(worlds), 1000)
+        for world in worlds[::50]:
+            for name in circle.names:
+                self.assertIn(behind(circle, world, name), worlds)
+        with self.assertRaises(TooMany):
+            keeps(circle, (0,), "Z")
+        self.assertIs(keeps(circle, (0, 1, 2, 3), "K1", 20000), True)
+        paper = judge_keeping(circle, (0, 3), "Z", 20000)
+        self.assertEqual([world for world, _ in paper[1]], list(worlds))
+        run = first_run(circle, (1, 2), grand_thing(6), 20000)
+        self.assertEqual(judge_keeping(circle, (1, 2), grand_thing(6), 20000)[1], run)
+        self.assertIsNotNone(first_opening(circle, "f", 20000))
+        self.assertEqual(holders(circle, "Z", 20000), ())
+        run = tuple("abcdef" * 10)
+        for group in ((0,), (0, 1, 2, 3)):
+            world, things, told = slow_run(circle, run, group)
+            self.assertEqual(after(circle, run), world)
+            self.assertEqual(seen(circle, run, group).things, things)
+            self.assertEqual(seers(circle, run, group), told)
+        self.assertEqual(Circle.read(str(circle)), circle)
 
 
 if __name__ == "__main__":

@@ -31,12 +31,20 @@ def own_names():
     attributes = set()
     for path, tree in trees():
         defined[path.stem] = {node.name for node in tree.body if isinstance(node, (ast.FunctionDef, ast.ClassDef))}
+        defined[path.stem] |= {node.targets[0].id for node in tree.body if isinstance(node, ast.Assign)}
         for node in ast.walk(tree):
             if isinstance(node, ast.ClassDef):
                 methods |= {part.name for part in node.body if isinstance(part, ast.FunctionDef)}
             if isinstance(node, ast.Attribute) and isinstance(node.ctx, ast.Store):
                 attributes.add(node.attr)
     return defined, methods, attributes
+
+
+def called(node):
+    """The name of what a node calls, None if it calls nothing."""
+    if not isinstance(node, ast.Call):
+        return None
+    return node.func.attr if isinstance(node.func, ast.Attribute) else node.func.id
 
 
 class RulesTest(unittest.TestCase):
@@ -114,6 +122,19 @@ class RulesTest(unittest.TestCase):
                         if isinstance(sign, (ast.Is, ast.IsNot)):
                             self.assertTrue(isinstance(side, ast.Constant), (path, node.lineno))
         self.assertFalse(methods & attributes)
+
+    def test_sets_and_generators(self):
+        for path, tree in trees():
+            for node in ast.walk(tree):
+                for part in ast.iter_child_nodes(node):
+                    place = (path, getattr(part, "lineno", None))
+                    if isinstance(part, ast.Set):
+                        self.assertFalse([item for item in part.elts if isinstance(item, ast.Starred)], place)
+                    if isinstance(part, (ast.Set, ast.SetComp)) or called(part) == "set":
+                        self.assertTrue(called(node) in ("sorted", "len") or isinstance(node, (ast.Compare, ast.Assign)),
+                                        place)
+                    if isinstance(part, ast.GeneratorExp):
+                        self.assertIn(called(node), ("list", "tuple", "dict", "join"), place)
 
 
 if __name__ == "__main__":
