@@ -361,6 +361,11 @@ def same_rng(number):
     return random.Random(number)
 
 
+TWO = Circle(STD, 2, 2, (
+    ("hand", 0, None, ((1, ("K", (1,))), None)),
+    ("post", 0, None, ((0, (("lock", "u", "K"), (0, 1))), (1, (("lock", "t", "K"), (0, 1))))),
+), (("K",), ()))
+
 POOL = ("K", "L", "M", "s", ("lock", "s", "K"), ("lock", "t", "K"), ("lock", "K", "L"), ("lock", ("pair", "L", "a"), "M"),
         ("pair", "K", "L"), ("half", "K"), ("seal", "M", ("half", "K")), ("sign", "s", "K"), ("lock", "M", ("pair", "K", "s")),
         ("mark", "K"), ("pair", "s", "M"), ("lock", "t", "t"))
@@ -467,3 +472,175 @@ def slow_first(circle, group, thing):
         if slow_had(circle.book, pooled_things(world, group), thing):
             return run
     return None
+
+
+def slow_core(book, left, right):
+    """[14]: the core of the pairs of things at the same places of two rows, None if they are not even."""
+    lot = sorted(set(zip(left, right)), key=lambda pair: (slow_text(pair[0]), slow_text(pair[1])))
+    one = Row(book, tuple(pair[0] for pair in lot))
+    other = Row(book, tuple(pair[1] for pair in lot))
+    if slow_picture(one) != slow_picture(other):
+        return None
+    pairs = zip(slow_boxes(one), slow_boxes(other))
+    return tuple(sorted(pairs, key=lambda pair: (slow_text(pair[0]), slow_text(pair[1]))))
+
+
+def mate_key(mate):
+    """[21]: what mates are ordered by."""
+    return world_key(mate[0]), tuple((slow_text(left), slow_text(right)) for left, right in mate[1])
+
+
+def slow_sights(circle, run, group):
+    """What a group sees behind a run: the things of its row, its seers, and how many of them are firsts."""
+    _, things, told = slow_run(circle, run, group)
+    return things, told, sum(len(circle.firsts[member]) for member in group)
+
+
+def slow_mates(one, other, group, run):
+    """[21]: the mates of a run, found by following all runs of the second circle that show no more."""
+    things, told, _ = slow_sights(one, run, group)
+    begun = slow_sights(other, (), group)
+    if [len(one.firsts[member]) for member in group] != [len(other.firsts[member]) for member in group]:
+        return []
+    waiting = [(slow_start(other), begun[0])]
+    found = set(waiting)
+    while waiting:
+        world, row = waiting.pop()
+        for name in other.names:
+            follow, show, _ = slow_step(other, world, name)
+            further = row
+            if show is not None and set(show[1]) & set(group):
+                if len(row) == len(told) or told[len(row)] != tuple(at for at in group if at in show[1]):
+                    continue
+                further = (*row, show[0])
+            if (follow, further) not in found:
+                found.add((follow, further))
+                waiting.append((follow, further))
+    ends = {(world, row) for world, row in found if len(row) == len(things)
+            and slow_picture(Row(one.book, things)) == slow_picture(Row(one.book, row))}
+    return sorted({(world, slow_core(one.book, things, row)) for world, row in ends}, key=mate_key)
+
+
+def like_circle(rng, circle):
+    """A circle that is like another one, perhaps alike for some group: changed in one way or another."""
+    pick = rng.randrange(6)
+    if pick == 0:
+        return circle
+    if pick == 1:
+        names = list("KLM")
+        rng.shuffle(names)
+        return circle.renamed(tuple(zip("KLM", names)))
+    deeds = list(circle.deeds)
+    if pick == 2 and deeds:
+        del deeds[rng.randrange(len(deeds))]
+    elif pick == 3:
+        moves = tuple((rng.randrange(circle.states), None) for _ in range(circle.states))
+        deeds.append(("go", rng.randrange(circle.members), None, moves))
+    elif deeds:
+        at = rng.randrange(len(deeds))
+        name, owner, need, moves = deeds[at]
+        moves = [changed_move(rng, circle, move) for move in moves]
+        deeds[at] = (name, owner, need, tuple(moves))
+    return Circle(circle.book, circle.members, circle.states, tuple(sorted(deeds)), circle.firsts)
+
+
+def changed_move(rng, circle, move):
+    """A move with another show, or with none, or as it is."""
+    if move is None or rng.random() < 0.4:
+        return move
+    if rng.random() < 0.3:
+        return move[0], None
+    group = tuple(sorted(rng.sample(range(circle.members), rng.randint(1, circle.members))))
+    return move[0], (rng.choice(POOL), move[1][1] if move[1] else group)
+
+
+def is_valid_world(circle, value):
+    """[16]: whether any value is a pair of a state and an ascending tuple of things for each member."""
+    if not isinstance(value, tuple) or len(value) != 2 or type(value[0]) is not int or not 0 <= value[0] < circle.states:
+        return False
+    if not isinstance(value[1], tuple) or len(value[1]) != circle.members:
+        return False
+    return all(isinstance(lot, tuple) and all(circle.book.is_thing(thing) for thing in lot) and lot == slow_lot(lot)
+               for lot in value[1])
+
+
+def is_valid_core(book, value):
+    """[14]: whether any value is an even pair lot that is its own core."""
+    if not isinstance(value, tuple) or not all(isinstance(pair, tuple) and len(pair) == 2 for pair in value):
+        return False
+    if not all(book.is_thing(thing) for pair in value for thing in pair):
+        return False
+    texts = [(slow_text(left), slow_text(right)) for left, right in value]
+    return texts == sorted(set(texts)) and slow_core(book, [p[0] for p in value], [p[1] for p in value]) == value
+
+
+def slow_kept(circle, group, about, cells):
+    """[19]: whether any value has the cells of a paper that a thing is kept."""
+    if not isinstance(cells, tuple) or not all(isinstance(cell, tuple) and len(cell) == 2 for cell in cells):
+        return False
+    if not all(is_valid_world(circle, world) for world, _ in cells):
+        return False
+    keys = [world_key(world) for world, _ in cells]
+    if keys != sorted(set(keys)) or world_key(slow_start(circle)) not in keys:
+        return False
+    for world, closed in cells:
+        if not isinstance(closed, tuple) or not all(circle.book.is_thing(thing) for thing in closed):
+            return False
+        if closed != slow_lot(closed) or not slow_closed(Row(circle.book, pooled_things(world, group)), about, closed):
+            return False
+        if not all(world_key(slow_step(circle, world, name)[0]) in keys for name in circle.names):
+            return False
+    return True
+
+
+def slow_follows(other, group, sight, mate, further):
+    """[22]: whether a mate follows another one for what a group sees in the first circle, None if it is nothing."""
+    waiting = [(mate[0], None)]
+    found = set(waiting)
+    while waiting:
+        world, shown = waiting.pop()
+        for name in other.names:
+            follow, show, done = slow_step(other, world, name)
+            members = () if show is None else tuple(at for at in group if at in show[1])
+            if members and (sight is None or shown is not None or members != sight[1]):
+                continue
+            state = (follow, show[0] if members else shown)
+            if done and state not in found:
+                found.add(state)
+                waiting.append(state)
+    if sight is None:
+        return (further[0], None) in found and further[1] == mate[1]
+    left = [pair[0] for pair in mate[1]]
+    right = [pair[1] for pair in mate[1]]
+    return any(world == further[0] and shown is not None
+               and slow_core(other.book, [*left, sight[0]], [*right, shown]) == further[1] for world, shown in found)
+
+
+def slow_covered(one, other, group, cells):
+    """[22]: whether any value has the cells of a paper that a circle is covered by another one."""
+    if not isinstance(cells, tuple) or not all(isinstance(cell, tuple) and len(cell) == 2 for cell in cells):
+        return False
+    for world, mates in cells:
+        if not is_valid_world(one, world) or not isinstance(mates, tuple) or not mates:
+            return False
+        if not all(isinstance(mate, tuple) and len(mate) == 2 and is_valid_world(other, mate[0])
+                   and is_valid_core(one.book, mate[1]) for mate in mates):
+            return False
+    keys = [(world_key(world), [mate_key(mate) for mate in mates]) for world, mates in cells]
+    if keys != sorted(keys) or any(keys[at] == keys[at + 1] for at in range(len(keys) - 1)):
+        return False
+    if any(mates != sorted(mates) or len(set(mates)) < len(mates) for _, mates in keys):
+        return False
+    begun = slow_mates(one, other, group, ())
+    if not any(world == slow_start(one) and all(mate in begun for mate in mates) for world, mates in cells):
+        return False
+    for world, mates in cells:
+        for name in one.names:
+            follow, show, done = slow_step(one, world, name)
+            members = () if show is None else tuple(at for at in group if at in show[1])
+            sight = (show[0], members) if members else None
+            if done and not any(behind == follow and all(any(slow_follows(other, group, sight, mate, further)
+                                                             for mate in mates) for further in ends)
+                                for behind, ends in cells):
+                return False
+    return True

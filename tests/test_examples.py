@@ -1,16 +1,20 @@
-"""[35] and the words of [4] to [20]: the examples that speak of rows, worlds, runs, shares and keeping."""
+"""[35] and the words of [4] to [24]: the examples that speak of rows, worlds, runs, shares, keeping and telling."""
 
 import unittest
 
+from circlekeep.circles import Circle
 from circlekeep.having import basis, is_had
 from circlekeep.keeping import first_run, holders, keeps
 from circlekeep.likeness import compare, compare_holds, is_alike
+from circlekeep.mates import mates_behind
 from circlekeep.pairlots import core_of, pair_lot
+from circlekeep.policies import tell_alike
 from circlekeep.rows import Row
 from circlekeep.runs import after, seen
 from circlekeep.shares import shares_of
+from circlekeep.telling import are_alike_for, first_telling
 from circlekeep.worlds import start_of, worlds_of
-from helper import ROOM, STD
+from helper import ROOM, STD, TWO
 
 
 def row(*things):
@@ -85,6 +89,21 @@ class CircleTest(unittest.TestCase):
         self.assertIs(keeps(ROOM, (1,), "K"), False)
         self.assertEqual(first_run(ROOM, (1,), "K"), ("hand",))
         self.assertEqual(holders(ROOM, "K"), ((0,), (1,)))
+
+    def test_telling(self):
+        self.assertEqual(TWO, Circle.read(str(ROOM).replace("lock(s,K)", "lock(u,K)")))
+        self.assertIs(are_alike_for(ROOM, TWO, (1,)), False)
+        self.assertEqual(first_telling(ROOM, TWO, (1,)), ("post", "hand"))
+
+    def test_states_that_are_possible(self):
+        # Behind post member 1 saw one thing that it cannot open; behind hand it has seen the name K instead.
+        self.assertEqual([world[0] for world, _ in mates_behind(ROOM, ROOM, (1,), ("post",))], [0, 1])
+        self.assertEqual([world[0] for world, _ in mates_behind(ROOM, ROOM, (1,), ("hand", "post"))], [1])
+
+    def test_policy(self):
+        # Post is a deed of member 0, of which nothing is told to member 1; but it sees something.
+        self.assertIs(tell_alike(ROOM, (), (), ("post",), 1), True)
+        self.assertNotEqual(len(seen(ROOM, (), (1,))), len(seen(ROOM, ("post",), (1,))))
 
     def test_shares(self):
         self.assertEqual(shares_of("S", ((0, 1), (2,)), ("K0", "K1", "K2")),

@@ -4,9 +4,9 @@ import copy
 import inspect
 import unittest
 
-from circlekeep import (books, circles, having, keeping, likeness, pairlots, pictures, recipes, rows, runs, shares, things,
-                        worlds)
-from helper import ROOM, ROW, STD, any_values
+from circlekeep import (books, circles, having, keepchecks, keeping, likeness, mates, pairlots, pictures, policies, recipes,
+                        rows, runs, shares, tellchecks, telling, things, worlds)
+from helper import ROOM, ROW, STD, TWO, any_values
 
 LOCK = ("lock", "s", "K")
 OTHER = rows.Row(STD, (("lock", "s", "L"), "L"))
@@ -53,6 +53,16 @@ FUNCTIONS = (
     (keeping.first_run, "circle group thing most", (ROOM, (1,), "K", 6)),
     (keeping.first_opening, "circle name most", (ROOM, "post", 6)),
     (keeping.holders, "circle thing most", (ROOM, "K", 6)),
+    (keepchecks.keeping_holds, "circle group about thing", (ROOM, (1,), "L", keeping.judge_keeping(ROOM, (1,), "L"))),
+    (mates.mates_behind, "one other group run most", (ROOM, TWO, (1,), ("post",), 6)),
+    (telling.is_covered, "one other group most", (ROOM, TWO, (1,), 6)),
+    (telling.judge_telling, "one other group most", (ROOM, ROOM, (1,), 6)),
+    (telling.are_alike_for, "one other group most", (ROOM, TWO, (1,), 6)),
+    (telling.first_telling, "one other group most", (ROOM, TWO, (1,), 6)),
+    (tellchecks.telling_holds, "one other group thing", (ROOM, ROOM, (1,), telling.judge_telling(ROOM, ROOM, (1,)))),
+    (policies.is_policy, "circle thing", (ROOM, ((0, 1),))),
+    (policies.ears_of, "circle policy member", (ROOM, ((0, 1),), 0)),
+    (policies.tell_alike, "circle policy run other member", (ROOM, ((0, 1),), RUN, RUN[::-1], 1)),
 )
 
 # For each method an object, its name, its parameters in order, and valid arguments.
@@ -68,7 +78,8 @@ SPECIAL = ((books.Book, ("__eq__", "__str__", "is_thing", "read_thing", "needed"
            (rows.Row, ("__eq__", "__str__", "__len__", "__iter__", "__add__", "with_thing", "only", "replaced", "read",
                        "__init__")),
            (circles.Circle, ("__eq__", "__str__", "deed", "renamed", "turned", "read", "__init__")))
-MODULES = (things, books, rows, recipes, having, pictures, likeness, pairlots, circles, worlds, runs, shares, keeping)
+MODULES = (things, books, rows, recipes, having, pictures, likeness, pairlots, circles, worlds, runs, shares, keeping,
+           keepchecks, mates, telling, tellchecks, policies)
 CLASSES = (books.Book, rows.Row, circles.Circle)
 
 
@@ -120,7 +131,9 @@ class InterfaceTest(unittest.TestCase):
             for ask, arguments in ((recipes.is_recipe, (ROW,)), (having.is_had, (ROW,)),
                                    (having.judge_holds, (ROW, "s")),
                                    (likeness.compare_holds, (ROW, OTHER)), (pairlots.is_pair_lot, (STD,)),
-                                   (worlds.is_world, (ROOM,)), (runs.is_run, (ROOM,)), (runs.is_group, (ROOM,))):
+                                   (worlds.is_world, (ROOM,)), (runs.is_run, (ROOM,)), (runs.is_group, (ROOM,)),
+                                   (keepchecks.keeping_holds, (ROOM, (1,), "K")), (policies.is_policy, (ROOM,)),
+                                   (tellchecks.telling_holds, (ROOM, TWO, (1,)))):
                 self.assertIn(ask(*arguments, value), (True, False))
             if not isinstance(value, Exception):
                 self.assertEqual(value, kept)
@@ -136,7 +149,9 @@ class InterfaceTest(unittest.TestCase):
                        runs.seers(ROOM, RUN, (0, 1)), runs.read_run(ROOM, "post"), shares.shares_of("S", ((0,),), ("A",)),
                        keeping.judge_keeping(ROOM, (1,), "K"), keeping.judge_keeping(ROOM, (1,), "L"),
                        keeping.first_run(ROOM, (1,), "K"), keeping.first_opening(ROOM, "hand"),
-                       keeping.holders(ROOM, "K")):
+                       keeping.holders(ROOM, "K"), mates.mates_behind(ROOM, TWO, (1,), ("post",)),
+                       telling.judge_telling(ROOM, ROOM, (1,)), telling.judge_telling(ROOM, TWO, (1,)),
+                       telling.first_telling(ROOM, TWO, (1,)), policies.ears_of(ROOM, ((0, 1),), 0)):
             self.check_tuples(answer)
 
     def check_tuples(self, answer):

@@ -1,0 +1,83 @@
+"""Strategies: single mates that follow whatever is done in a first circle."""
+
+from circlekeep.runs import sight_of
+
+
+class Strategy:
+    """Pairs of the place of a reached world of a first circle and the number of a mate that follows all deeds there.
+
+    A pair is lost if its mate is in a barred state, or if some deed has no answer but lost pairs. The pairs that are
+    asked for and those that answer them are looked at, no others: answers has for each of them that is not lost its
+    answers, one for each deed that is open.
+    """
+
+    def __init__(self, chart, follower, barred):
+        self.chart = chart
+        self.follower = follower
+        self.barred = barred
+        self.lost = {}
+        self.answers = {}
+        self.askers = {}
+
+    def is_won(self, place, number):
+        """Whether the mate with a number follows whatever is done from the world at a place on."""
+        waiting = [(place, number)]
+        while waiting:
+            pair = waiting.pop()
+            if pair not in self.lost and pair not in self.answers:
+                waiting.extend(self.look_at(pair))
+        return (place, number) not in self.lost
+
+    def look_at(self, pair):
+        """Answer for a pair as far as is known, or note that it is lost; tells the pairs to look at behind it."""
+        answers = self.answers_of(pair)
+        if answers is None:
+            self.lost[pair] = True
+            # Whoever counted on it has to be looked at again.
+            askers = [asker for asker in self.askers.pop(pair, []) if asker in self.answers]
+            for asker in askers:
+                self.answers.pop(asker, None)
+            return askers
+        self.answers[pair] = answers
+        for answer in answers:
+            self.askers.setdefault(answer, []).append(pair)
+        return answers
+
+    def answers_of(self, pair):
+        """For each deed that is open an answer that is not lost so far, None if there is none for one of them."""
+        place, number = pair
+        if self.follower.mates[number][0][0] in self.barred:
+            return None
+        answers = []
+        for step in self.chart.onward[place]:
+            answer = self.answer_to(step, number)
+            if answer is None:
+                return None
+            answers.append(answer)
+        return answers
+
+    def answer_to(self, step, number):
+        """A pair behind a deed that is not lost so far, None if there is none."""
+        name, follow, show = step
+        sight = sight_of(self.follower.group, show)
+        # Circles are often alike because they do the same, so this is tried ahead of all else.
+        for mate in self.follower.twins(number, sight, name):
+            if (follow, mate) not in self.lost:
+                return follow, mate
+        rested = self.follower.resting(number)
+        for mate in rested if sight is None else self.follower.moved(rested, sight):
+            if (follow, mate) not in self.lost:
+                return follow, mate
+        return None
+
+    def pairs_from(self, roots):
+        """Some pairs that are not lost, and all that answer for them."""
+        found = {pair: True for pair in roots}
+        waiting = list(roots)
+        while waiting:
+            pair = waiting.pop()
+            for answer in self.answers[pair]:
+                if answer not in found:
+                    found[answer] = True
+                    waiting.append(answer)
+        return list(found)

@@ -1,0 +1,76 @@
+"""Tables: the reached worlds of a first circle with mates that runs to them have."""
+
+from circlekeep.runs import sight_of
+from circlekeep.strategies import Strategy
+
+
+class Table:
+    """Cells of places of reached worlds and numbers of mates, in the order of the first runs to them.
+
+    Looked for is the first run none of whose mates is in a state that is not barred. There is no cell for a run if
+    an earlier cell with the same world has no mates but some of those of the run, as whatever is found behind the
+    run is found from there, too; nor if one mate of it follows whatever is done, as nothing is found then. Such
+    mates are the roots.
+    """
+
+    def __init__(self, chart, follower, barred):
+        self.chart = chart
+        self.follower = follower
+        self.barred = barred
+        self.strategy = Strategy(chart, follower, barred)
+        self.cells = []
+        self.runs = []
+        self.chosen = {}
+        self.roots = {}
+
+    def add(self, place, mates, run):
+        """Note a cell, if it is needed, with the run that leads to it."""
+        # One bit for each mate: there are many cells, and each is compared with all earlier ones of its world.
+        bits = sum([1 << number for number in mates])
+        earlier = self.chosen.setdefault(place, [])
+        if any([other & bits == other for other in earlier]):
+            return
+        for number in mates:
+            if self.strategy.is_won(place, number):
+                self.roots[place, number] = True
+                return
+        earlier.append(bits)
+        self.cells.append((place, mates))
+        self.runs.append(run)
+
+    def look_on(self, number):
+        """Note what is behind the cell with a number."""
+        place, mates = self.cells[number]
+        for name, follow, show in self.chart.onward[place]:
+            sight = sight_of(self.follower.group, show)
+            further = mates if sight is None else self.follower.moved(mates, sight)
+            self.add(follow, further, (*self.runs[number], name))
+
+    def is_wrong(self, mates):
+        """Whether no mate is in a state that is not barred."""
+        return all([self.follower.mates[number][0][0] in self.barred for number in mates])
+
+    def explore(self, first):
+        """The first run that is looked for, None if there is none; first is the core of the empty runs, or None."""
+        self.add(0, self.follower.mates_at_first(first), ())
+        done = 0
+        while done < len(self.cells):
+            if self.is_wrong(self.cells[done][1]):
+                return self.runs[done]
+            self.look_on(done)
+            done += 1
+        return None
+
+    def told_cells(self):
+        """A paper's cells, if there is no such run: ordered by their worlds, then by their mates."""
+        single = [(place, (number,)) for place, number in self.strategy.pairs_from(list(self.roots))]
+        told = [self.told_cell(place, mates) for place, mates in [*self.cells, *single]]
+        return tuple([self.cell_at(cell) for cell in sorted(told)])
+
+    def told_cell(self, place, mates):
+        """A cell with texts for things."""
+        return self.chart.worlds[place], tuple(self.follower.told_mates(mates))
+
+    def cell_at(self, told):
+        """The cell that is told."""
+        return self.chart.stage.world_at(told[0]), tuple([self.follower.mate_at(mate) for mate in told[1]])
