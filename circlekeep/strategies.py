@@ -34,7 +34,8 @@ class Strategy:
         if answers is None:
             self.lost[pair] = True
             # Whoever counted on it has to be looked at again.
-            askers = [asker for asker in self.askers.pop(pair, []) if asker in self.answers]
+            known = self.askers.pop(pair, [])
+            askers = [asker for asker in known if asker in self.answers]
             for asker in askers:
                 self.answers.pop(asker, None)
             return askers
@@ -65,7 +66,8 @@ class Strategy:
             if (follow, mate) not in self.lost:
                 return follow, mate
         rested = self.follower.resting(number)
-        for mate in rested if sight is None else self.follower.moved(rested, sight):
+        others = rested if sight is None else self.follower.moved(rested, sight)
+        for mate in others:
             if (follow, mate) not in self.lost:
                 return follow, mate
         return None

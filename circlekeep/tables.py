@@ -23,7 +23,7 @@ class Table:
         self.chosen = {}
         self.roots = {}
 
-    def add(self, place, mates, run):
+    def note_cell(self, place, mates, run):
         """Note a cell, if it is needed, with the run that leads to it."""
         # One bit for each mate: there are many cells, and each is compared with all earlier ones of its world.
         bits = sum([1 << number for number in mates])
@@ -44,7 +44,7 @@ class Table:
         for name, follow, show in self.chart.onward[place]:
             sight = sight_of(self.follower.group, show)
             further = mates if sight is None else self.follower.moved(mates, sight)
-            self.add(follow, further, (*self.runs[number], name))
+            self.note_cell(follow, further, (*self.runs[number], name))
 
     def is_wrong(self, mates):
         """Whether no mate is in a state that is not barred."""
@@ -52,7 +52,7 @@ class Table:
 
     def explore(self, first):
         """The first run that is looked for, None if there is none; first is the core of the empty runs, or None."""
-        self.add(0, self.follower.mates_at_first(first), ())
+        self.note_cell(0, self.follower.mates_at_first(first), ())
         done = 0
         while done < len(self.cells):
             if self.is_wrong(self.cells[done][1]):
