@@ -1,23 +1,27 @@
 """Tables: the reached worlds of a first circle with mates that runs to them have."""
 
+from heapq import heappop, heappush
+
 from circlekeep.runs import sight_of
 from circlekeep.strategies import Strategy
 
 
 class Table:
-    """Cells of places of reached worlds and numbers of mates, in the order of the first runs to them.
+    """Cells of places of reached worlds and numbers of mates, each with a run that leads to it.
 
-    Looked for is the first run none of whose mates is in a state that is not barred. There is no cell for a run if
-    an earlier cell with the same world has no mates but some of those of the run, as whatever is found behind the
-    run is found from there, too; nor if one mate of it follows whatever is done, as nothing is found then. Such
-    mates are the roots.
+    Looked for is a run none of whose mates is in a state that is not barred, the first one unless the table is hasty.
+    There is no cell for a run if an earlier cell with the same world has no mates but some of those of the run, as
+    whatever is found behind the run is found from there, too; nor if one mate of it follows whatever is done, as
+    nothing is found then. Such mates are the roots.
     """
 
-    def __init__(self, chart, follower, barred):
+    def __init__(self, chart, follower, barred, hasty):
         self.chart = chart
         self.follower = follower
         self.barred = barred
+        self.hasty = hasty
         self.strategy = Strategy(chart, follower, barred)
+        self.queue = []
         self.cells = []
         self.runs = []
         self.chosen = {}
@@ -35,6 +39,8 @@ class Table:
                 self.roots[place, number] = True
                 return
         earlier.append(bits)
+        # Where fewest mates are left, a run without any is near; else all is looked at in the order of the runs.
+        heappush(self.queue, (len(mates) if self.hasty else 0, len(self.cells)))
         self.cells.append((place, mates))
         self.runs.append(run)
 
@@ -51,14 +57,13 @@ class Table:
         return all([self.follower.mates[number][0][0] in self.barred for number in mates])
 
     def explore(self, first):
-        """The first run that is looked for, None if there is none; first is the core of the empty runs, or None."""
+        """The run that is looked for, None if there is none; first is the core of the empty runs, or None."""
         self.note_cell(0, self.follower.mates_at_first(first), ())
-        done = 0
-        while done < len(self.cells):
-            if self.is_wrong(self.cells[done][1]):
-                return self.runs[done]
-            self.look_on(done)
-            done += 1
+        while self.queue:
+            _, number = heappop(self.queue)
+            if self.is_wrong(self.cells[number][1]):
+                return self.runs[number]
+            self.look_on(number)
         return None
 
     def told_cells(self):

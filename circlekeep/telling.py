@@ -6,29 +6,33 @@ from circlekeep.mates import check_circles, follower_for
 from circlekeep.tables import Table
 
 
-def judged(one, other, group, most):
-    """The first run of the first circle that has no mates, or None, and the table; raises Mismatch, then TooMany."""
+def judged(one, other, group, most, hasty):
+    """The first run of the first circle that has no mates, or any one, or None; and the table.
+
+    Raises Mismatch, then TooMany.
+    """
     check_circles(one, other)
     chart = Chart(one, most)
     follower = follower_for(chart.stage, Chart(other, most).stage, group)
-    table = Table(chart, follower, ())
+    table = Table(chart, follower, (), hasty)
     return table.explore(first_core(one, other, group, follower.cores)), table
 
 
 def first_telling(one, other, group, most=200):
     """The first run of the first circle that has no mates, None if there is none; raises Mismatch, then TooMany."""
-    run, _ = judged(one, other, group, most)
+    run, _ = judged(one, other, group, most, False)
     return run
 
 
 def is_covered(one, other, group, most=200):
     """Whether the first circle is covered by the second one for a group; raises Mismatch, then TooMany."""
-    return first_telling(one, other, group, most) is None
+    run, _ = judged(one, other, group, most, True)
+    return run is None
 
 
 def judge_telling(one, other, group, most=200):
     """A paper that the first circle is covered by the second one, or that it is not; raises Mismatch, then TooMany."""
-    run, table = judged(one, other, group, most)
+    run, table = judged(one, other, group, most, True)
     return ("covered", table.told_cells()) if run is None else ("tells", run)
 
 
