@@ -19,15 +19,14 @@ def is_group(circle, thing):
 
 
 def walked(stage, run):
-    """The told world behind a run, and the told shows that are seen on the way."""
+    """The told world behind a run, and the told show of each deed that was open, None where it shows nothing."""
     world = stage.start
     shows = []
     for name in run:
         step = stage.step(world, name)
         if step is not None:
             world, show = step
-            if show is not None:
-                shows.append(show)
+            shows.append(show)
     return world, shows
 
 

@@ -6,15 +6,13 @@ from circlekeep.runs import sight_of
 class Strategy:
     """Pairs of the place of a reached world of a first circle and the number of a mate that follows all deeds there.
 
-    A pair is lost if its mate is in a barred state, or if some deed has no answer but lost pairs. The pairs that are
-    asked for and those that answer them are looked at, no others: answers has for each of them that is not lost its
-    answers, one for each deed that is open.
+    A pair is lost if some deed has no answer but lost pairs. The pairs that are asked for and those that answer them
+    are looked at, no others: answers has for each of them that is not lost its answers, one for each deed that is open.
     """
 
-    def __init__(self, chart, follower, barred):
+    def __init__(self, chart, follower):
         self.chart = chart
         self.follower = follower
-        self.barred = barred
         self.lost = {}
         self.answers = {}
         self.askers = {}
@@ -47,8 +45,6 @@ class Strategy:
     def answers_of(self, pair):
         """For each deed that is open an answer that is not lost so far, None if there is none for one of them."""
         place, number = pair
-        if self.follower.mates[number][0][0] in self.barred:
-            return None
         answers = []
         for step in self.chart.onward[place]:
             answer = self.answer_to(step, number)
@@ -62,14 +58,17 @@ class Strategy:
         name, follow, show = step
         sight = sight_of(self.follower.group, show)
         # Circles are often alike because they do the same, so this is tried ahead of all else.
-        for mate in self.follower.twins(number, sight, name):
-            if (follow, mate) not in self.lost:
-                return follow, mate
+        twin = self.kept_pair(follow, self.follower.twins(number, sight, name))
+        if twin is not None:
+            return twin
         rested = self.follower.resting(number)
-        others = rested if sight is None else self.follower.moved(rested, sight)
-        for mate in others:
-            if (follow, mate) not in self.lost:
-                return follow, mate
+        return self.kept_pair(follow, rested if sight is None else self.follower.moved(rested, sight))
+
+    def kept_pair(self, place, mates):
+        """The first pair of a place and one of some mates that is not lost so far, None if there is none."""
+        for mate in mates:
+            if (place, mate) not in self.lost:
+                return place, mate
         return None
 
     def pairs_from(self, roots):

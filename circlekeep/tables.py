@@ -9,18 +9,17 @@ from circlekeep.strategies import Strategy
 class Table:
     """Cells of places of reached worlds and numbers of mates, each with a run that leads to it.
 
-    Looked for is a run none of whose mates is in a state that is not barred, the first one unless the table is hasty.
-    There is no cell for a run if an earlier cell with the same world has no mates but some of those of the run, as
-    whatever is found behind the run is found from there, too; nor if one mate of it follows whatever is done, as
-    nothing is found then. Such mates are the roots.
+    Looked for is a run that has no mates, the first one unless the table is hasty. There is no cell for a run if an
+    earlier cell with the same world has no mates but some of those of the run, as whatever is found behind the run is
+    found from there, too; nor if one mate of it follows whatever is done, as nothing is found then. Such mates are the
+    roots.
     """
 
-    def __init__(self, chart, follower, barred, hasty):
+    def __init__(self, chart, follower, hasty):
         self.chart = chart
         self.follower = follower
-        self.barred = barred
         self.hasty = hasty
-        self.strategy = Strategy(chart, follower, barred)
+        self.strategy = Strategy(chart, follower)
         self.queue = []
         self.cells = []
         self.runs = []
@@ -52,16 +51,12 @@ class Table:
             further = mates if sight is None else self.follower.moved(mates, sight)
             self.note_cell(follow, further, (*self.runs[number], name))
 
-    def is_wrong(self, mates):
-        """Whether no mate is in a state that is not barred."""
-        return all([self.follower.mates[number][0][0] in self.barred for number in mates])
-
     def explore(self, first):
         """The run that is looked for, None if there is none; first is the core of the empty runs, or None."""
         self.note_cell(0, self.follower.mates_at_first(first), ())
         while self.queue:
             _, number = heappop(self.queue)
-            if self.is_wrong(self.cells[number][1]):
+            if not self.cells[number][1]:
                 return self.runs[number]
             self.look_on(number)
         return None

@@ -14,7 +14,7 @@ def judged(one, other, group, most, hasty):
     check_circles(one, other)
     chart = Chart(one, most)
     follower = follower_for(chart.stage, Chart(other, most).stage, group)
-    table = Table(chart, follower, (), hasty)
+    table = Table(chart, follower, hasty)
     return table.explore(first_core(one, other, group, follower.cores)), table
 
 

@@ -7,12 +7,16 @@ from circlekeep.circles import Circle
 from circlekeep.errors import TooMany
 from circlekeep.having import basis, got_things, has_all, judge, judge_holds, least_size, recipe_for
 from circlekeep.keeping import first_opening, first_run, holders, judge_keeping, keeps
+from circlekeep.keepchecks import keeping_holds
 from circlekeep.likeness import compare, compare_holds, is_alike
+from circlekeep.mates import mates_behind
 from circlekeep.pairlots import core_of, joined, pair_lot
 from circlekeep.pictures import picture
 from circlekeep.recipes import is_recipe, value_of, written_size
 from circlekeep.rows import Row
 from circlekeep.runs import after, seen, seers
+from circlekeep.tellchecks import telling_holds
+from circlekeep.telling import are_alike_for, first_telling, is_covered, judge_telling
 from circlekeep.things import size_of, text_of
 from circlekeep.worlds import behind, worlds_of
 from helper import STD, slow_got, slow_picture, slow_run
@@ -148,6 +152,7 @@ class CircleTest(unittest.TestCase):
         self.assertIs(keeps(circle, (0, 1, 2, 3), "K1", 20000), True)
         paper = judge_keeping(circle, (0, 3), "Z", 20000)
         self.assertEqual([world for world, _ in paper[1]], list(worlds))
+        self.assertIs(keeping_holds(circle, (0, 3), "Z", paper), True)
         run = first_run(circle, (1, 2), grand_thing(6), 20000)
         self.assertEqual(judge_keeping(circle, (1, 2), grand_thing(6), 20000)[1], run)
         self.assertIsNotNone(first_opening(circle, "f", 20000))
@@ -159,6 +164,52 @@ class CircleTest(unittest.TestCase):
             self.assertEqual(seen(circle, run, group).things, things)
             self.assertEqual(seers(circle, run, group), told)
         self.assertEqual(Circle.read(str(circle)), circle)
+
+
+def deeds_of(*told):
+    """Deeds of member 0 by their moves, told as (next, thing) or (next, None): all is shown to member 0."""
+    return tuple([(name, 0, None, tuple([move and (move[0], move[1] and (move[1], (0,))) for move in moves]))
+                  for name, *moves in told])
+
+
+class TellingTest(unittest.TestCase):
+
+    def test_things_that_all_look_alike(self):
+        # Behind a run each thing that was seen could have been each of the others.
+        deeds = tuple([(word, 0, None, ((0, (grand_thing(at), (1, 2))),)) for at, word in enumerate("abcde")])
+        circle = Circle(STD, 4, 1, deeds, ((), ("M",), (), ("N",)))
+        other = circle.renamed((("K0", "K1"), ("K1", "K0"), ("M", "N"), ("S2", "X")))
+        self.assertEqual(len(worlds_of(circle)), 32)
+        self.assertIs(are_alike_for(circle, other, (0, 1, 2, 3)), False)
+        self.assertIs(are_alike_for(circle, other, (0, 1, 2)), True)
+        paper = judge_telling(circle, other, (1, 2))
+        self.assertEqual(len(paper[1]), 32)
+        self.assertIs(telling_holds(circle, other, (1, 2), paper), True)
+        self.assertEqual(len(mates_behind(circle, other, (1,), tuple("abcde"))), 120)
+        self.assertEqual(len(mates_behind(circle, other, (1,), tuple("abcde" * 12))), 120)
+        self.assertIsNone(first_telling(circle, other, (2,)))
+
+    def test_a_run_that_is_hard_to_find(self):
+        # There are very many sets of mates, and only long runs have none.
+        lock, key, seal = ("lock", "s", "K4"), ("lock", "s", "K5"), ("lock", "s", "K1")
+        told = (("a", (1, "K0"), (2, "K0"), (0, None)), ("b", (1, lock), (2, None), (0, lock)), ("c", (0, key), (1, key), None),
+                ("d", (1, seal), (2, seal), (2, seal)), ("e", (1, "K0"), (1, "K0"), (2, "K0")))
+        one = Circle(STD, 1, 3, deeds_of(*told), ((),))
+        other = Circle(STD, 1, 3, deeds_of(*told[1:]), ((),))
+        self.assertIs(is_covered(one, other, (0,)), False)
+        self.assertIs(are_alike_for(other, one, (0,)), False)
+        self.assertIs(is_covered(other, one, (0,)), True)
+        self.assertIs(telling_holds(one, other, (0,), judge_telling(one, other, (0,))), True)
+
+    def test_a_long_first_run(self):
+        told = (("a", (1, "K6"), (0, None)), ("b", (0, "K0"), (1, "K0")), ("c", (1, "K0"), (1, "K5")),
+                ("d", (0, "K2"), (1, None)), ("e", (0, "K5"), (1, None)))
+        one = Circle(STD, 1, 2, deeds_of(*told), ((),))
+        other = Circle(STD, 1, 2, deeds_of(*told[:-1]), ((),))
+        run = first_telling(one, other, (0,))
+        self.assertEqual(run, tuple("aabaadbdebedac"))
+        self.assertEqual(mates_behind(one, other, (0,), run), ())
+        self.assertNotEqual(mates_behind(one, other, (0,), run[:-1]), ())
 
 
 if __name__ == "__main__":

@@ -202,6 +202,9 @@ class TellsTest(unittest.TestCase):
                             (("hand",) * 9000, False), (("post",) * 5000 + ("hand",), True)):
             self.assertIs(telling_holds(ROOM, TWO, (1,), ("tells", run)), wanted)
         self.assertIs(telling_holds(ROOM, ROOM, (1,), ("tells", ("post", "hand"))), False)
+        for word in (*any_values(), "Tells", "tell", "covered", "shown", "learns"):
+            self.assertIs(telling_holds(ROOM, TWO, (1,), (word, ("post", "hand"))), False)
+            self.assertIs(telling_holds(ROOM, TWO, (1,), ("tells", ("post", "hand"), word)), False)
 
     def test_random_ones(self):
         rng = same_rng(152)

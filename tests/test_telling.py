@@ -7,7 +7,23 @@ from circlekeep.circles import Circle
 from circlekeep.errors import Mismatch, TooMany
 from circlekeep.telling import are_alike_for, first_telling, is_covered, judge_telling
 from helper import (ROOM, STD, TWO, all_groups, all_runs, like_circle, random_circle, same_rng, slow_covered, slow_mates,
-                    slow_reached)
+                    slow_reached, slow_run)
+
+
+def searched(one, other, most):
+    """The first run without mates for member 0, found by the sets of mates of runs, None if all are longer than most."""
+    waiting = [()]
+    found = set()
+    while waiting:
+        run = waiting.pop(0)
+        mates = slow_mates(one, other, (0,), run)
+        if not mates:
+            return run
+        cell = (slow_run(one, run, (0,))[0], tuple(mates))
+        if cell not in found and len(run) < most:
+            found.add(cell)
+            waiting.extend([(*run, name) for name in one.names])
+    return None
 
 
 class TellingTest(unittest.TestCase):
@@ -90,6 +106,11 @@ class TellingTest(unittest.TestCase):
         self.check(one, other, (0,), None)
         self.check(other, one, (0,), None)
         self.assertIn(2, [len(mates) for _, mates in judge_telling(one, other, (0,))[1]])
+        # The same if the first circle goes on and on while it is open what follows.
+        one = Circle(STD, 1, 3, (*one.deeds, ("d", 0, None, (None, (2, None), (1, None)))), ((),))
+        other = Circle(STD, 1, 4, (*other.deeds, ("d", 0, None, (None, None, (1, None), None)),
+                                   ("e", 0, None, (None, (3, None), None, None)), ("f", 0, None, (None, None, (3, None), None))), ((),))
+        self.check(one, other, (0,), None)
 
     def test_random_ones(self):
         rng = same_rng(132)
@@ -110,6 +131,23 @@ class TellingTest(unittest.TestCase):
             self.check(one, other, group, first)
             told[None if first is None else len(first)] = True
         self.assertGreaterEqual(set(told), {None, 0, 1, 2})
+
+    def test_long_first_runs(self):
+        rng = same_rng(134)
+        lengths = []
+        names = ("K", "L", "M")
+        while len(lengths) < 14:
+            def move():
+                return rng.randrange(2), (rng.choice(names), (0,)) if rng.random() < 0.7 else None
+            deeds = [(word, 0, None, (move(), move())) for word in "abcd"]
+            one = Circle(STD, 1, 2, tuple(deeds), ((),))
+            del deeds[rng.randrange(4)]
+            other = Circle(STD, 1, 2, tuple(deeds), ((),))
+            first = searched(one, other, 4)
+            if first is not None and len(first) > 2:
+                self.assertEqual(first_telling(one, other, (0,)), first)
+                lengths.append(len(first))
+        self.assertGreaterEqual(set(lengths), {3, 4})
 
     def test_renamed_ones(self):
         rng = same_rng(133)
