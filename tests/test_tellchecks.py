@@ -4,10 +4,12 @@ import unittest
 
 from circlekeep.books import Book
 from circlekeep.circles import Circle
+from circlekeep.errors import TooMany
 from circlekeep.mates import mates_behind
 from circlekeep.runs import after
 from circlekeep.tellchecks import telling_holds
 from circlekeep.telling import judge_telling
+from circlekeep.worlds import worlds_of
 from helper import (ROOM, STD, TWO, all_groups, all_runs, any_values, like_circle, mate_key, random_circle, same_rng,
                     slow_covered, slow_mates, slow_reached, slow_run, slow_start, variants, world_key)
 
@@ -243,10 +245,13 @@ class ManyWorldsTest(unittest.TestCase):
 
     def test_worlds_without_end_are_not_looked_at(self):
         # Only worlds that lead to those of the mates matter, so the second circle may have any number of worlds.
-        shows = [(f"K{at}", group) for at, group in enumerate(((1,), (2,), (3,), (1, 2), (1, 3), (2, 3), (1, 2, 3), (3,)))]
-        deeds = [("d" * (at + 1), 0, None, tuple([(state, shows[(at + state) % 8]) for state in range(6)])) for at in range(6)]
+        groups = ((1,), (2,), (3,), (1, 2), (1, 3), (2, 3), (1, 2, 3))
+        deeds = [("d" * (at + 1), 0, None, tuple([(state, (f"K{(at + state) % 8}", groups[(at + 2 * state) % 7]))
+                                                  for state in range(6)])) for at in range(5)]
         deeds += [("go", 0, None, tuple([((state + 1) % 6, None) for state in range(6)]))]
         many = Circle(STD, 4, 6, tuple(sorted(deeds)), ((), (), (), ()))
+        with self.assertRaises(TooMany):
+            worlds_of(many, 10000)
         still = Circle(STD, 4, 1, (), ((), (), (), ()))
         start = slow_start(still)
         cells = tuple((start, (((state, start[1]), ()),)) for state in range(6))

@@ -106,10 +106,8 @@ class TellingTest(unittest.TestCase):
         self.check(one, other, (0,), None)
         self.check(other, one, (0,), None)
         self.assertIn(2, [len(mates) for _, mates in judge_telling(one, other, (0,))[1]])
-        # The same if the first circle goes on and on while it is open what follows.
-        one = Circle(STD, 1, 3, (*one.deeds, ("d", 0, None, (None, (2, None), (1, None)))), ((),))
-        other = Circle(STD, 1, 4, (*other.deeds, ("d", 0, None, (None, None, (1, None), None)),
-                                   ("e", 0, None, (None, (3, None), None, None)), ("f", 0, None, (None, None, (3, None), None))), ((),))
+        # The same if something can be done again and again meanwhile.
+        one = Circle(STD, 1, 3, (*one.deeds, ("d", 0, None, (None, (1, None), None))), ((),))
         self.check(one, other, (0,), None)
 
     def test_random_ones(self):
