@@ -1,5 +1,6 @@
 """[15]: circles, their deeds, other names in them and other orders of their members."""
 
+import itertools
 import unittest
 
 from circlekeep.books import Book
@@ -210,6 +211,12 @@ class TurnedTest(unittest.TestCase):
         self.assertEqual(turned.deeds, (("ask", 1, "K", ((0, ("L", (0, 1))),)), ("bid", 0, None, ((0, ("M", (0, 2))),))))
         self.assertEqual(made.turned((0, 1, 2)), made)
         self.assertEqual(turned.turned((1, 2, 0)), made)
+        for order in itertools.permutations(range(3)):
+            turned = made.turned(order)
+            self.assertEqual(turned.firsts, tuple(made.firsts[member] for member in order))
+            self.assertEqual([order[turned.deeds[at][1]] for at in (0, 1)], [0, 2])
+            shows = [turned.deeds[at][3][0][1][1] for at in (0, 1)]
+            self.assertEqual([sorted(order[at] for at in show) for show in shows], [[0, 2], [1, 2]])
 
     def test_each_order(self):
         rng = same_rng(62)
