@@ -31,8 +31,9 @@ class Table:
         # One bit for each mate: there are many cells, and each is compared with all earlier ones of its world.
         bits = sum([1 << number for number in mates])
         earlier = self.chosen.setdefault(place, [])
-        if any([other & bits == other for other in earlier]):
-            return
+        for other in earlier:
+            if other & bits == other:
+                return
         for number in mates:
             if self.strategy.is_won(place, number):
                 self.roots[place, number] = True
