@@ -2,8 +2,12 @@
 
 from circlekeep.hoards import Hoard
 from circlekeep.likeness import are_pairs, pair_texts
+from circlekeep.memories import Memory, outline
 from circlekeep.pictures import picture_in
 from circlekeep.things import text_of
+
+# Deep enough for the things of pairs and their parts.
+DEPTH = 3
 
 
 class Cores:
@@ -16,6 +20,7 @@ class Cores:
             self.by_text.update(stage.by_text)
         self.views = {}
         self.grown = {}
+        self.memory = Memory()
 
     def told_pairs(self, pairs):
         """Some pairs of things with texts."""
@@ -26,10 +31,14 @@ class Cores:
 
     def told_core(self, value):
         """A core with texts, None for any other value."""
-        if not are_pairs(self.book, value):
-            return None
-        told = self.told_pairs(value)
-        return told if self.core_of_pairs(told) == told else None
+        key = outline(value, DEPTH)
+        told = self.memory.recalled(key, value)
+        if told is None and are_pairs(self.book, value):
+            told = self.told_pairs(value)
+            if self.core_of_pairs(told) != told:
+                return None
+            self.memory.keep(key, value, told)
+        return told
 
     def core_at(self, told):
         """The core that is told."""

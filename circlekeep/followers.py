@@ -105,6 +105,10 @@ class Follower:
             numbers = self.moved(numbers, sight)
         return numbers
 
+    def states_of(self, numbers):
+        """The ascending tuple of the states of some mates."""
+        return tuple(sorted({self.mates[number][0][0] for number in numbers}))
+
     def told_mates(self, numbers):
         """Some mates as they are ordered: by their worlds, then by their cores."""
         return sorted([self.mates[number] for number in numbers])

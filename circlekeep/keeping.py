@@ -2,6 +2,7 @@
 
 from circlekeep.charts import Chart
 from circlekeep.errors import Kept
+from circlekeep.forms import choices_of, is_within
 from circlekeep.having import closed_paper, hoard_of, least_recipe
 from circlekeep.runs import seen
 from circlekeep.stages import pooled
@@ -63,24 +64,11 @@ def first_opening(circle, name, most=200):
     return None
 
 
-def groups_of(members):
-    """All groups of so many members, each behind those that are smaller."""
-    found = [()]
-    for member in range(members):
-        found = [*found, *[(*group, member) for group in found]]
-    return sorted(found[1:], key=len)
-
-
-def is_within(group, other):
-    """Whether all members of a group belong to another one."""
-    return all([member in other for member in group])
-
-
 def holders(circle, thing, most=200):
     """The ascending tuple of the least groups that ever have a thing; raises TooMany."""
     chart = Chart(circle, most)
     least = []
-    for group in groups_of(circle.members):
+    for group in choices_of(list(range(circle.members)))[1:]:
         if not any([is_within(other, group) for other in least]) and first_place(chart, group, thing) is not None:
             least.append(group)
     return tuple(sorted(least))

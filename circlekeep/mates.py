@@ -26,11 +26,20 @@ def follower_for(stage, further, group):
     return Follower(further, group, Cores([stage, further]))
 
 
+def matched(one, other, group, most):
+    """The chart of a first circle, the follower for it, and the told core of both empty runs, None if they are unlike.
+
+    Raises Mismatch, then TooMany.
+    """
+    check_circles(one, other)
+    chart = Chart(one, most)
+    further = chart if one == other else Chart(other, most)
+    follower = follower_for(chart.stage, further.stage, group)
+    return chart, follower, first_core(one, other, group, follower.cores)
+
+
 def mates_behind(one, other, group, run, most=200):
     """The ascending tuple of the mates of a run of the first circle; raises Mismatch, then TooMany."""
-    check_circles(one, other)
-    stage = Chart(one, most).stage
-    follower = follower_for(stage, Chart(other, most).stage, group)
-    first = first_core(one, other, group, follower.cores)
-    numbers = follower.mates_along(first, sights_along(stage, run, group))
+    chart, follower, first = matched(one, other, group, most)
+    numbers = follower.mates_along(first, sights_along(chart.stage, run, group))
     return tuple([follower.mate_at(told) for told in follower.told_mates(numbers)])

@@ -6,13 +6,15 @@ from circlekeep.runs import sight_of
 class Strategy:
     """Pairs of the place of a reached world of a first circle and the number of a mate that follows all deeds there.
 
-    A pair is lost if some deed has no answer but lost pairs. The pairs that are asked for and those that answer them
-    are looked at, no others: answers has for each of them that is not lost its answers, one for each deed that is open.
+    A pair is lost if some deed has no answer but lost pairs, or if the mate and those that follow it while the group
+    sees nothing are all in some states. The pairs that are asked for and those that answer them are looked at, no
+    others: answers has for each of them that is not lost its answers, one for each deed that is open.
     """
 
-    def __init__(self, chart, follower):
+    def __init__(self, chart, follower, states):
         self.chart = chart
         self.follower = follower
+        self.states = states
         self.lost = {}
         self.answers = {}
         self.askers = {}
@@ -45,6 +47,8 @@ class Strategy:
     def answers_of(self, pair):
         """For each deed that is open an answer that is not lost so far, None if there is none for one of them."""
         place, number = pair
+        if self.witness(number) is None:
+            return None
         answers = []
         for step in self.chart.onward[place]:
             answer = self.answer_to(step, number)
@@ -52,6 +56,17 @@ class Strategy:
                 return None
             answers.append(answer)
         return answers
+
+    def is_outside(self, number):
+        """Whether a mate is in none of the states."""
+        return self.follower.mates[number][0][0] not in self.states
+
+    def witness(self, number):
+        """The first mate in none of the states that follows a mate while the group sees nothing, None if none does."""
+        for rested in self.follower.resting(number):
+            if self.is_outside(rested):
+                return rested
+        return None
 
     def answer_to(self, step, number):
         """A pair behind a deed that is not lost so far, None if there is none."""

@@ -2,6 +2,7 @@
 
 from heapq import heappop, heappush
 
+from circlekeep.images import bits_of
 from circlekeep.runs import sight_of
 from circlekeep.strategies import Strategy
 
@@ -9,17 +10,16 @@ from circlekeep.strategies import Strategy
 class Table:
     """Cells of places of reached worlds and numbers of mates, each with a run that leads to it.
 
-    Looked for is a run that has no mates, the first one unless the table is hasty. There is no cell for a run if an
-    earlier cell with the same world has no mates but some of those of the run, as whatever is found behind the run is
-    found from there, too; nor if one mate of it follows whatever is done, as nothing is found then. Such mates are the
-    roots.
+    Looked for is a run all of whose mates are in some states: one without mates, if there are no states. There is no
+    cell for a run if an earlier cell with the same world has no mates but some of those of the run, as whatever is
+    found behind the run is found from there, too; nor if one mate of it follows whatever is done and can always be in
+    none of the states, as nothing is found then. Such mates are the roots.
     """
 
-    def __init__(self, chart, follower, hasty):
+    def __init__(self, chart, follower, states):
         self.chart = chart
         self.follower = follower
-        self.hasty = hasty
-        self.strategy = Strategy(chart, follower)
+        self.strategy = Strategy(chart, follower, states)
         self.queue = []
         self.cells = []
         self.runs = []
@@ -29,7 +29,7 @@ class Table:
     def note_cell(self, place, mates, run):
         """Note a cell, if it is needed, with the run that leads to it."""
         # One bit for each mate: there are many cells, and each is compared with all earlier ones of its world.
-        bits = sum([1 << number for number in mates])
+        bits = bits_of(mates)
         earlier = self.chosen.setdefault(place, [])
         for other in earlier:
             if other & bits == other:
@@ -39,10 +39,14 @@ class Table:
                 self.roots[place, number] = True
                 return
         earlier.append(bits)
-        # Where fewest mates are left, a run without any is near; else all is looked at in the order of the runs.
-        heappush(self.queue, (len(mates) if self.hasty else 0, len(self.cells)))
+        # Where fewest mates are left outside, a run without any is near.
+        heappush(self.queue, (len(self.outside(mates)), len(self.cells)))
         self.cells.append((place, mates))
         self.runs.append(run)
+
+    def outside(self, mates):
+        """Those of some mates that are in none of the states."""
+        return [number for number in mates if self.strategy.is_outside(number)]
 
     def look_on(self, number):
         """Note what is behind the cell with a number."""
@@ -53,18 +57,19 @@ class Table:
             self.note_cell(follow, further, (*self.runs[number], name))
 
     def explore(self, first):
-        """The run that is looked for, None if there is none; first is the core of the empty runs, or None."""
+        """A run that is looked for, None if there is none; first is the core of the empty runs, or None."""
         self.note_cell(0, self.follower.mates_at_first(first), ())
         while self.queue:
             _, number = heappop(self.queue)
-            if not self.cells[number][1]:
+            if not self.outside(self.cells[number][1]):
                 return self.runs[number]
             self.look_on(number)
         return None
 
     def told_cells(self):
         """A paper's cells, if there is no such run: ordered by their worlds, then by their mates."""
-        single = [(place, (number,)) for place, number in self.strategy.pairs_from(list(self.roots))]
+        pairs = self.strategy.pairs_from(list(self.roots))
+        single = [(place, sorted({number, self.strategy.witness(number)})) for place, number in pairs]
         told = [self.told_cell(place, mates) for place, mates in [*self.cells, *single]]
         return tuple([self.cell_at(cell) for cell in sorted(told)])
 

@@ -4,9 +4,9 @@ from circlekeep.cores import Cores
 from circlekeep.followers import Follower, first_core
 from circlekeep.forms import ascends
 from circlekeep.mates import follower_for, unlike_part
+from circlekeep.readers import WorldReader
 from circlekeep.runs import is_run, sight_of, sights_along
 from circlekeep.stages import Stage
-from circlekeep.worlds import is_world
 
 
 class CellReader:
@@ -16,24 +16,25 @@ class CellReader:
         self.stage = Stage(one)
         self.further = Stage(other)
         self.cores = Cores([self.stage, self.further])
+        self.worlds = WorldReader(self.stage)
+        self.others = WorldReader(self.further)
 
     def told_mate(self, value):
         """A pair of a valid world of the second circle and a core with texts, None for any other value."""
-        if not isinstance(value, tuple) or len(value) != 2 or not is_world(self.further.circle, value[0]):
+        if not isinstance(value, tuple) or len(value) != 2:
             return None
-        core = self.cores.told_core(value[1])
-        return None if core is None else (self.further.told_world(value[0]), core)
+        told = (self.others.told(value[0]), self.cores.told_core(value[1]))
+        return None if None in told else told
 
     def told_cell(self, value):
         """A cell with texts, None for any other value."""
-        if not isinstance(value, tuple) or len(value) != 2 or not is_world(self.stage.circle, value[0]):
+        if not isinstance(value, tuple) or len(value) != 2 or not isinstance(value[1], tuple) or not value[1]:
             return None
-        if not isinstance(value[1], tuple) or not value[1]:
-            return None
+        world = self.worlds.told(value[0])
         mates = tuple([self.told_mate(mate) for mate in value[1]])
-        if None in mates or not ascends(mates):
+        if world is None or None in mates or not ascends(mates):
             return None
-        return self.stage.told_world(value[0]), mates
+        return world, mates
 
     def told_cells(self, value):
         """Ascending cells with texts, None for any other value."""
@@ -84,14 +85,17 @@ def covered_holds(one, other, group, value):
     return is_among(firsts, starts) and are_followed(reader.stage, follower, cells)
 
 
-def tells_holds(one, other, group, value):
-    """Whether any value is a run of a circle that has no mates in another one that matches."""
-    if not is_run(one, value):
-        return False
+def states_behind(one, other, group, run):
+    """The states of the mates that a run of a circle has in another one that matches."""
     stage = Stage(one)
     follower = follower_for(stage, Stage(other), group)
     first = first_core(one, other, group, follower.cores)
-    return not follower.mates_along(first, sights_along(stage, value, group))
+    return follower.states_of(follower.mates_along(first, sights_along(stage, run, group)))
+
+
+def tells_holds(one, other, group, value):
+    """Whether any value is a run of a circle that has no mates in another one that matches."""
+    return is_run(one, value) and not states_behind(one, other, group, value)
 
 
 def telling_holds(one, other, group, thing):

@@ -1,38 +1,32 @@
 """Telling: whether a group ever tells one circle from another one."""
 
-from circlekeep.charts import Chart
-from circlekeep.followers import first_core
-from circlekeep.mates import check_circles, follower_for
+from circlekeep.mates import matched
+from circlekeep.meetings import Meeting
 from circlekeep.tables import Table
 
 
-def judged(one, other, group, most, hasty):
-    """The first run of the first circle that has no mates, or any one, or None; and the table.
-
-    Raises Mismatch, then TooMany.
-    """
-    check_circles(one, other)
-    chart = Chart(one, most)
-    follower = follower_for(chart.stage, Chart(other, most).stage, group)
-    table = Table(chart, follower, hasty)
-    return table.explore(first_core(one, other, group, follower.cores)), table
+def judged(one, other, group, most):
+    """A run of the first circle that has no mates, None if there is none, and the table; raises as matched does."""
+    chart, follower, first = matched(one, other, group, most)
+    table = Table(chart, follower, ())
+    return table.explore(first), table
 
 
 def first_telling(one, other, group, most=200):
     """The first run of the first circle that has no mates, None if there is none; raises Mismatch, then TooMany."""
-    run, _ = judged(one, other, group, most, False)
-    return run
+    chart, follower, first = matched(one, other, group, most)
+    return Meeting(chart, follower, ()).first_run(first)
 
 
 def is_covered(one, other, group, most=200):
     """Whether the first circle is covered by the second one for a group; raises Mismatch, then TooMany."""
-    run, _ = judged(one, other, group, most, True)
+    run, _ = judged(one, other, group, most)
     return run is None
 
 
 def judge_telling(one, other, group, most=200):
     """A paper that the first circle is covered by the second one, or that it is not; raises Mismatch, then TooMany."""
-    run, table = judged(one, other, group, most, True)
+    run, table = judged(one, other, group, most)
     return ("covered", table.told_cells()) if run is None else ("tells", run)
 
 

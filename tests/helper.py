@@ -644,3 +644,136 @@ def slow_covered(one, other, group, cells):
                                 for behind, ends in cells):
                 return False
     return True
+
+
+def slow_told(circle, policy, run):
+    """[23]: what a run tells each member, as triples within triples."""
+    if not run:
+        return [()] * circle.members
+    before = slow_told(circle, policy, run[:-1])
+    owner = [deed[1] for deed in circle.deeds if deed[0] == run[-1]][0]
+    return [(before[member], before[owner], run[-1]) if member == owner or (owner, member) in policy else before[member]
+            for member in range(circle.members)]
+
+
+def random_policy(rng, circle, share=0.35):
+    """A policy that has about such a share of all pairs."""
+    members = range(circle.members)
+    return tuple((one, other) for one in members for other in members if one != other and rng.random() < share)
+
+
+def policy_circle(rng, states=3, deeds=4, members=4):
+    """A circle in which policies may well be respected: a deed shows its things to the same members in each state."""
+    many = rng.randint(2, members)
+    size = rng.randint(1, states)
+    pool = rng.sample(rng.choice((POOL, ("K", "L", "M", ("lock", "s", "K"), ("lock", "t", "L")), ("s", "K"))), 2)
+    done = []
+    for word in sorted(rng.sample(["ask", "bid", "cut", "dig", "eat"], rng.randint(1, deeds))):
+        owner = rng.randrange(many)
+        group = rng.choice([(owner,), (owner,), tuple(sorted(rng.sample(range(many), rng.randint(1, many)))), None])
+        moves = [(rng.randrange(size), group and (rng.choice(pool), group)) for _ in range(size)]
+        if rng.random() < 0.2:
+            moves[rng.randrange(size)] = None
+        done.append((word, owner, "K" if rng.random() < 0.15 else None, tuple(moves)))
+    firsts = tuple(rng.choice([(), (), ("K",), (("lock", "s", "K"),)]) for _ in range(many))
+    return Circle(STD, many, size, tuple(done), firsts)
+
+
+def way_key(cell):
+    """[25]: what cells of a policy's paper are ordered by."""
+    member, one, other, core, heard = cell
+    return member, world_key(one), world_key(other), [(slow_text(left), slow_text(right)) for left, right in core], heard
+
+
+def is_valid_way(circle, value):
+    """[25]: whether any value is a member, two worlds, a core, and an ascending tuple of members without this one."""
+    if not isinstance(value, tuple) or len(value) != 5:
+        return False
+    member, one, other, core, heard = value
+    if type(member) is not int or not 0 <= member < circle.members or not isinstance(heard, tuple):
+        return False
+    if not is_valid_world(circle, one) or not is_valid_world(circle, other) or not is_valid_core(circle.book, core):
+        return False
+    if not all(type(other) is int and 0 <= other < circle.members for other in heard):
+        return False
+    return list(heard) == sorted(set(heard) - {member})
+
+
+def slow_sees(circle, world, names, member):
+    """The world behind some deeds from a world on, and the things that a member sees."""
+    things = []
+    for name in names:
+        world, show, _ = slow_step(circle, world, name)
+        if show is not None and member in show[1]:
+            things.append(show[0])
+    return world, things
+
+
+def slow_beginnings(circle, policy, world, member):
+    """[25]: the beginnings for a world and a member: cells, None in the place of those that are not fine."""
+    owners = {deed[0]: deed[1] for deed in circle.deeds}
+    ears = {name: [at for at in range(circle.members) if at == owner or (owner, at) in policy]
+            for name, owner in owners.items()}
+    splits = [((name,), (), ears[name]) for name in circle.names]
+    for one, other in itertools.combinations(circle.names, 2):
+        if owners[one] not in ears[other] and owners[other] not in ears[one]:
+            splits.append(((one, other), (other, one), [at for at in ears[one] if at in ears[other]]))
+    for names, others, heard in splits:
+        if member not in heard:
+            ahead, left = slow_sees(circle, world, names, member)
+            behind, right = slow_sees(circle, world, others, member)
+            lot = list(world[1][member])
+            core = slow_core(circle.book, lot + left, lot + right) if len(left) == len(right) else None
+            yield None if core is None else (member, ahead, behind, core, tuple(heard))
+
+
+def slow_ways(circle, policy, cell):
+    """[25]: what is asked for behind a cell: cells, None in the place of those that are not fine."""
+    member, one, other, core, heard = cell
+    for name, owner, _, _ in circle.deeds:
+        grown = set(heard)
+        if owner in heard:
+            grown |= {at for at in range(circle.members) if at == owner or (owner, at) in policy}
+        if member not in grown:
+            ahead, left = slow_sees(circle, one, (name,), member)
+            behind, right = slow_sees(circle, other, (name,), member)
+            pairs = [[pair[0] for pair in core] + left, [pair[1] for pair in core] + right]
+            further = slow_core(circle.book, *pairs) if len(left) == len(right) else None
+            yield None if further is None else (member, ahead, behind, further, tuple(sorted(grown)))
+
+
+def slow_respected(circle, policy, worlds, cells):
+    """[25]: whether two values are the worlds and the cells of a paper that a policy is respected."""
+    if not isinstance(worlds, tuple) or not all(is_valid_world(circle, world) for world in worlds):
+        return False
+    if not isinstance(cells, tuple) or not all(is_valid_way(circle, cell) for cell in cells):
+        return False
+    keys = [world_key(world) for world in worlds]
+    order = [way_key(cell) for cell in cells]
+    if keys != sorted(set(keys)) or order != sorted(order) or any(order[at] == order[at + 1] for at in range(len(order) - 1)):
+        return False
+    if world_key(slow_start(circle)) not in keys:
+        return False
+    asked = []
+    for world in worlds:
+        if not all(world_key(slow_step(circle, world, name)[0]) in keys for name in circle.names):
+            return False
+        for member in range(circle.members):
+            asked.extend(slow_beginnings(circle, policy, world, member))
+    for cell in cells:
+        asked.extend(slow_ways(circle, policy, cell))
+    return all(is_given(cell, order) for cell in asked)
+
+
+def is_given(cell, order):
+    """[25]: whether what is asked for is fine, and a cell, told by its key, if it is needed."""
+    if cell is None:
+        return False
+    _, one, other, core, _ = cell
+    return (one == other and all(left == right for left, right in core)) or way_key(cell) in order
+
+
+def slow_look(circle, group, run):
+    """[16]: what tells whether a group sees alike behind two runs of one circle: equal if it does."""
+    _, things, told = slow_run(circle, run, group)
+    return told, slow_picture(Row(circle.book, things))

@@ -1,14 +1,18 @@
-"""[35] and the words of [4] to [24]: the examples that speak of rows, worlds, runs, shares, keeping and telling."""
+"""[35] and the words of [4] to [28]: the examples, but those that speak of the house."""
 
 import unittest
 
 from circlekeep.circles import Circle
 from circlekeep.having import basis, is_had
 from circlekeep.keeping import first_run, holders, keeps
+from circlekeep.knowing import knows, possible_states
 from circlekeep.likeness import compare, compare_holds, is_alike
 from circlekeep.mates import mates_behind
+from circlekeep.mends import least_left_out
 from circlekeep.pairlots import core_of, pair_lot
 from circlekeep.policies import tell_alike
+from circlekeep.respectchecks import policy_holds
+from circlekeep.respecting import judge_policy, respects
 from circlekeep.rows import Row
 from circlekeep.runs import after, seen
 from circlekeep.shares import shares_of
@@ -97,13 +101,21 @@ class CircleTest(unittest.TestCase):
 
     def test_states_that_are_possible(self):
         # Behind post member 1 saw one thing that it cannot open; behind hand it has seen the name K instead.
+        self.assertEqual(possible_states(ROOM, (1,), ("post",)), (0, 1))
+        self.assertIs(knows(ROOM, (1,), ("hand", "post"), (1,)), True)
         self.assertEqual([world[0] for world, _ in mates_behind(ROOM, ROOM, (1,), ("post",))], [0, 1])
         self.assertEqual([world[0] for world, _ in mates_behind(ROOM, ROOM, (1,), ("hand", "post"))], [1])
+
+    def test_mends(self):
+        self.assertEqual(least_left_out(ROOM, (1,), "K"), ((("hand", 0),),))
 
     def test_policy(self):
         # Post is a deed of member 0, of which nothing is told to member 1; but it sees something.
         self.assertIs(tell_alike(ROOM, (), (), ("post",), 1), True)
         self.assertNotEqual(len(seen(ROOM, (), (1,))), len(seen(ROOM, ("post",), (1,))))
+        self.assertIs(respects(ROOM, ()), False)
+        self.assertIs(policy_holds(ROOM, (), ("shown", 1, (), ("post",), None)), True)
+        self.assertIs(policy_holds(ROOM, (), judge_policy(ROOM, ())), True)
 
     def test_shares(self):
         self.assertEqual(shares_of("S", ((0, 1), (2,)), ("K0", "K1", "K2")),

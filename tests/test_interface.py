@@ -4,8 +4,8 @@ import copy
 import inspect
 import unittest
 
-from circlekeep import (books, circles, having, keepchecks, keeping, likeness, mates, pairlots, pictures, policies, recipes,
-                        rows, runs, shares, tellchecks, telling, things, worlds)
+from circlekeep import (books, circles, having, keepchecks, keeping, knowing, learning, likeness, mates, mends, pairlots, pictures,
+                        policies, recipes, respectchecks, respecting, rows, runs, shares, tellchecks, telling, things, worlds)
 from helper import ROOM, ROW, STD, TWO, any_values
 
 LOCK = ("lock", "s", "K")
@@ -63,6 +63,19 @@ FUNCTIONS = (
     (policies.is_policy, "circle thing", (ROOM, ((0, 1),))),
     (policies.ears_of, "circle policy member", (ROOM, ((0, 1),), 0)),
     (policies.tell_alike, "circle policy run other member", (ROOM, ((0, 1),), RUN, RUN[::-1], 1)),
+    (respecting.respects, "circle policy most", (ROOM, ((0, 1),), 6)),
+    (respecting.judge_policy, "circle policy most", (ROOM, (), 6)),
+    (respectchecks.policy_holds, "circle policy thing", (ROOM, ((0, 1),), respecting.judge_policy(ROOM, ((0, 1),)))),
+    (knowing.possible_states, "circle group run most", (ROOM, (1,), ("post",), 6)),
+    (knowing.knows, "circle group run states most", (ROOM, (1,), RUN, (1,), 6)),
+    (knowing.knows_that, "circle group further run states most", (ROOM, (0,), (1,), RUN, (1,), 6)),
+    (learning.judge_learning, "circle group states most", (ROOM, (1,), (), 6)),
+    (learning.first_learning, "circle group states most", (ROOM, (1,), (1,), 6)),
+    (learning.learning_holds, "circle group states thing", (ROOM, (1,), (), learning.judge_learning(ROOM, (1,), ()))),
+    (mends.places_of, "circle", (ROOM,)), (mends.without_shows, "circle places", (ROOM, (("post", 1),))),
+    (mends.with_needs, "circle names thing", (ROOM, ("hand",), "L")),
+    (mends.least_left_out, "circle group thing most", (ROOM, (1,), "K", 6)),
+    (mends.least_needs, "circle group thing need most", (ROOM, (1,), "K", "M", 6)),
 )
 
 # For each method an object, its name, its parameters in order, and valid arguments.
@@ -79,7 +92,7 @@ SPECIAL = ((books.Book, ("__eq__", "__str__", "is_thing", "read_thing", "needed"
                        "__init__")),
            (circles.Circle, ("__eq__", "__str__", "deed", "renamed", "turned", "read", "__init__")))
 MODULES = (things, books, rows, recipes, having, pictures, likeness, pairlots, circles, worlds, runs, shares, keeping,
-           keepchecks, mates, telling, tellchecks, policies)
+           keepchecks, mates, telling, tellchecks, policies, respecting, respectchecks, knowing, learning, mends)
 CLASSES = (books.Book, rows.Row, circles.Circle)
 
 
@@ -133,7 +146,8 @@ class InterfaceTest(unittest.TestCase):
                                    (likeness.compare_holds, (ROW, OTHER)), (pairlots.is_pair_lot, (STD,)),
                                    (worlds.is_world, (ROOM,)), (runs.is_run, (ROOM,)), (runs.is_group, (ROOM,)),
                                    (keepchecks.keeping_holds, (ROOM, (1,), "K")), (policies.is_policy, (ROOM,)),
-                                   (tellchecks.telling_holds, (ROOM, TWO, (1,)))):
+                                   (tellchecks.telling_holds, (ROOM, TWO, (1,))), (respectchecks.policy_holds, (ROOM, ())),
+                                   (learning.learning_holds, (ROOM, (1,), (0,)))):
                 self.assertIn(ask(*arguments, value), (True, False))
             if not isinstance(value, Exception):
                 self.assertEqual(value, kept)
@@ -151,7 +165,10 @@ class InterfaceTest(unittest.TestCase):
                        keeping.first_run(ROOM, (1,), "K"), keeping.first_opening(ROOM, "hand"),
                        keeping.holders(ROOM, "K"), mates.mates_behind(ROOM, TWO, (1,), ("post",)),
                        telling.judge_telling(ROOM, ROOM, (1,)), telling.judge_telling(ROOM, TWO, (1,)),
-                       telling.first_telling(ROOM, TWO, (1,)), policies.ears_of(ROOM, ((0, 1),), 0)):
+                       telling.first_telling(ROOM, TWO, (1,)), policies.ears_of(ROOM, ((0, 1),), 0),
+                       respecting.judge_policy(ROOM, ((0, 1),)), knowing.possible_states(ROOM, (1,), RUN),
+                       learning.judge_learning(ROOM, (1,), ()), learning.first_learning(ROOM, (1,), (1,)), mends.places_of(ROOM),
+                       mends.least_left_out(ROOM, (1,), "K"), mends.least_needs(ROOM, (1,), "K", "M")):
             self.check_tuples(answer)
 
     def check_tuples(self, answer):

@@ -8,18 +8,23 @@ from circlekeep.errors import TooMany
 from circlekeep.having import basis, got_things, has_all, judge, judge_holds, least_size, recipe_for
 from circlekeep.keeping import first_opening, first_run, holders, judge_keeping, keeps
 from circlekeep.keepchecks import keeping_holds
+from circlekeep.knowing import knows, knows_that, possible_states
+from circlekeep.learning import first_learning, judge_learning, learning_holds
 from circlekeep.likeness import compare, compare_holds, is_alike
 from circlekeep.mates import mates_behind
+from circlekeep.mends import least_left_out, least_needs, places_of, without_shows
 from circlekeep.pairlots import core_of, joined, pair_lot
 from circlekeep.pictures import picture
 from circlekeep.recipes import is_recipe, value_of, written_size
+from circlekeep.respectchecks import policy_holds
+from circlekeep.respecting import judge_policy, respects
 from circlekeep.rows import Row
 from circlekeep.runs import after, seen, seers
 from circlekeep.tellchecks import telling_holds
 from circlekeep.telling import are_alike_for, first_telling, is_covered, judge_telling
 from circlekeep.things import size_of, text_of
 from circlekeep.worlds import behind, worlds_of
-from helper import STD, slow_got, slow_picture, slow_run
+from helper import STD, all_groups, random_circle, same_rng, slow_got, slow_picture, slow_run
 
 GRAND = Book(
     (("a", 3), ("b", 3), ("c", 3), ("d", 2), ("e", 1), ("f", 1), ("g", 2), ("h", 1)),
@@ -201,6 +206,18 @@ class TellingTest(unittest.TestCase):
         self.assertIs(is_covered(other, one, (0,)), True)
         self.assertIs(telling_holds(one, other, (0,), judge_telling(one, other, (0,))), True)
 
+    def test_hard_first_runs(self):
+        # There are thousands of sets of mates on the way; from both ends they are soon gone through.
+        told = (("a", (0, "K6"), (1, "K0")), ("b", (0, "K7"), (0, "K7")), ("c", (1, "K6"), (0, "K3")), ("d", (0, "K6"), (1, "K1")),
+                ("e", (0, "K0"), (0, "K7")), ("f", (1, "K3"), (1, None)))
+        circle = Circle(STD, 1, 2, deeds_of(*told), ((),))
+        self.assertEqual(first_learning(circle, (0,), (1,)), tuple("abefaabefd"))
+        self.assertIs(learning_holds(circle, (0,), (1,), judge_learning(circle, (0,), (1,))), True)
+        told = (("a", None, (1, "K7")), ("b", (0, "K1"), (0, "K4")), ("c", (0, "K0"), (1, "K3")), ("d", (0, "K3"), None),
+                ("e", (1, None), (1, None)), ("f", None, (1, "K3")))
+        circle = Circle(STD, 1, 2, deeds_of(*told), ((),))
+        self.assertEqual(first_learning(circle, (0,), (1,)), tuple("bcdbebdcebea"))
+
     def test_a_long_first_run(self):
         told = (("a", (1, "K6"), (0, None)), ("b", (0, "K0"), (1, "K0")), ("c", (1, "K0"), (1, "K5")),
                 ("d", (0, "K2"), (1, None)), ("e", (0, "K5"), (1, None)))
@@ -210,6 +227,77 @@ class TellingTest(unittest.TestCase):
         self.assertEqual(run, tuple("aabaadbdebedac"))
         self.assertEqual(mates_behind(one, other, (0,), run), ())
         self.assertNotEqual(mates_behind(one, other, (0,), run[:-1]), ())
+
+
+def great_circle(rng, pool):
+    """A circle with four members, six deeds, and 50 to 60 reached worlds."""
+    while True:
+        circle = random_circle(rng, states=6, deeds=6, members=4, firsts=1, pool=pool)
+        if circle.members == 4 and len(circle.names) > 4:
+            try:
+                if len(worlds_of(circle, 60)) >= 50:
+                    return circle
+            except TooMany:
+                pass
+
+
+class SixtyWorldsTest(unittest.TestCase):
+
+    def test_all_that_is_asked_of_them(self):
+        rng = same_rng(231)
+        pool = tuple(grand_thing(number) for number in range(8))
+        for things in (pool, (*pool[:4], "K0", "K1", "K2", "K3"), tuple(f"K{number}" for number in range(8))):
+            for _ in range(3):
+                circle = great_circle(rng, things)
+                run = tuple(rng.choice(circle.names) for _ in range(60))
+                self.check_knowing(circle, run, rng)
+                for policy in ((), ((0, 1), (1, 2), (2, 3)), tuple((one, 3) for one in range(3))):
+                    paper = judge_policy(circle, policy)
+                    self.assertIs(respects(circle, policy), paper[0] == "respected")
+                    self.assertIs(policy_holds(circle, policy, paper), True)
+                few = without_shows(circle, places_of(circle)[6:])
+                for group in ((0,), (1, 2, 3)):
+                    for thing in things[:3]:
+                        for found in (least_left_out(few, group, thing, 1000), least_needs(few, group, thing, things[3], 1000)):
+                            self.assertEqual(found == ((),), keeps(few, group, thing, 1000))
+
+    def check_knowing(self, circle, run, rng):
+        for group in rng.sample(all_groups(circle), 5):
+            found = possible_states(circle, group, run)
+            states = tuple(sorted(rng.sample(range(6), 3)))[:circle.states]
+            states = tuple(state for state in states if state < circle.states)
+            self.assertIs(knows(circle, group, run, states), set(found) <= set(states))
+            for further in ((0,), (1, 3), group):
+                if knows_that(circle, group, further, run, states):
+                    self.assertIs(knows(circle, further, run, states), True)
+            paper = judge_learning(circle, group, states)
+            self.assertIs(learning_holds(circle, group, states, paper), True)
+            self.assertIs(first_learning(circle, group, states) is None, paper[0] == "never")
+
+    def test_many_cells_of_a_policy(self):
+        # Nobody but 0 sees anything, so two ways may go apart as far as they like.
+        pool = [grand_thing(number) for number in range(3)]
+        deeds = []
+        for at, name in enumerate("abcdef"):
+            moves = [((state * (at + 1) + 1) % 6, (pool[(at + state) % 3], (0,)) if state == at else None) for state in range(6)]
+            deeds.append((name, at % 4, None, tuple(moves)))
+        circle = Circle(STD, 4, 6, tuple(deeds), ((), (), (), ()))
+        self.assertGreater(len(worlds_of(circle)), 40)
+        policy = ((0, 1), (1, 0), (2, 0), (3, 0))
+        paper = judge_policy(circle, policy)
+        self.assertEqual(paper[0], "respected")
+        self.assertGreater(len(paper[2]), 5000)
+        self.assertIs(policy_holds(circle, policy, paper), True)
+        self.assertIs(policy_holds(circle, policy, ("respected", paper[1], paper[2][:-1])), False)
+
+    def test_names_that_all_look_alike(self):
+        deeds = tuple((word, at % 4, None, ((0, (f"K{at}", ((at + 1) % 4,) if at == 4 else (0, 1, 2, 3))),)) for at, word in enumerate("abcde"))
+        circle = Circle(STD, 4, 1, deeds, ((),) * 4)
+        self.assertEqual(len(worlds_of(circle)), 32)
+        for run in (tuple("abcde" * 12), tuple("aabbccddee" * 6)):
+            for group, further in (((0,), (1,)), ((1,), (0, 1, 2, 3)), ((0, 2, 3), (1,)), ((2,), (2, 3))):
+                self.assertIs(knows_that(circle, group, further, run, (0,)), True)
+                self.assertIs(knows_that(circle, group, further, run, ()), False)
 
 
 if __name__ == "__main__":

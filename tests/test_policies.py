@@ -4,19 +4,9 @@ import unittest
 
 from circlekeep.circles import Circle
 from circlekeep.policies import ears_of, is_policy, tell_alike
-from helper import ROOM, STD, all_runs, any_values, random_circle, same_rng, variants
+from helper import ROOM, STD, all_runs, any_values, random_circle, random_policy, same_rng, slow_told, variants
 
 FOUR = Circle(STD, 4, 1, tuple([(name, at, None, ((0, None),)) for at, name in enumerate("abcd")]), ((),) * 4)
-
-
-def told(circle, policy, run):
-    """[23]: what a run tells each member, as triples within triples."""
-    if not run:
-        return [()] * circle.members
-    before = told(circle, policy, run[:-1])
-    owner = [deed[1] for deed in circle.deeds if deed[0] == run[-1]][0]
-    return [(before[member], before[owner], run[-1]) if member == owner or (owner, member) in policy else before[member]
-            for member in range(circle.members)]
 
 
 def one_step(circle, policy, member, run):
@@ -38,11 +28,6 @@ def one_step(circle, policy, member, run):
             apart = owners[name] not in ears[other] and owners[other] not in ears[name]
             if apart and not hears(ears[name] & ears[other], run[at + 2:]):
                 yield (*run[:at], other, name, *run[at + 2:])
-
-
-def random_policy(rng, circle, share=0.35):
-    members = range(circle.members)
-    return tuple((one, other) for one in members for other in members if one != other and rng.random() < share)
 
 
 class PolicyTest(unittest.TestCase):
@@ -107,7 +92,7 @@ class TellTest(unittest.TestCase):
                 order = list(runs[0])
                 rng.shuffle(order)
                 runs[1] = tuple(order)
-            one, other = (told(circle, policy, run) for run in runs)
+            one, other = (slow_told(circle, policy, run) for run in runs)
             for member in range(circle.members):
                 wanted = one[member] == other[member]
                 alike += wanted and runs[0] != runs[1]

@@ -58,7 +58,7 @@ class StrategyTest(unittest.TestCase):
                 chart, follower, mates = begun(one, other, group)
                 pairs, won = slow_won(chart, follower, mates)
                 rng.shuffle(pairs)
-                strategy = Strategy(chart, follower)
+                strategy = Strategy(chart, follower, ())
                 for pair in pairs:
                     told[pair in won] += 1
                     self.assertIs(strategy.is_won(*pair), pair in won)
@@ -80,7 +80,7 @@ class StrategyTest(unittest.TestCase):
         deeds = tuple((word, 0, None, ((0, (name, (0,))),)) for word, name in zip("abcdef", "ABCDEF"))
         circle = Circle(STD, 1, 1, deeds, ((),))
         chart, follower, mates = begun(circle, circle, (0,))
-        strategy = Strategy(chart, follower)
+        strategy = Strategy(chart, follower, ())
         self.assertIs(strategy.is_won(0, mates[0]), True)
         self.assertEqual((len(strategy.answers), len(strategy.lost)), (64, 0))
 
