@@ -17,7 +17,7 @@ class Outlook:
         self.known = {}
 
     def first_views(self, first, mates):
-        """The views of the empty run; first is the outer group's core behind it, mates are those for the inner group."""
+        """The views of the empty run, from its told core for the outer group and its mates for the inner one."""
         return self.rested({self.outer.number_of((self.outer.stage.start, first)): bits_of(mates)})
 
     def image(self, bits, sight):
@@ -27,7 +27,7 @@ class Outlook:
         return self.known[bits, sight]
 
     def views_behind(self, number, bits, sight):
-        """Pairs for views behind the deeds by which the outer group sees what looks like a sight, or nothing as there."""
+        """Pairs for views behind the deeds by which the outer group sees what looks like a sight, or nothing."""
         world, core = self.outer.mates[number]
         found = []
         for ahead, behind in zip(self.outer.ends_at(world), self.inner.ends_at(world)):
