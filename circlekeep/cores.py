@@ -6,9 +6,6 @@ from circlekeep.memories import Memory, outline
 from circlekeep.pictures import picture_in
 from circlekeep.things import text_of
 
-# Deep enough for the things of pairs and their parts.
-DEPTH = 3
-
 
 class Cores:
     """What comes of cores by further pairs; told pairs are pairs of texts, told cores ascending tuples of these."""
@@ -31,7 +28,7 @@ class Cores:
 
     def told_core(self, value):
         """A core with texts, None for any other value."""
-        key = outline(value, DEPTH)
+        key = outline(value)
         told = self.memory.recalled(key, value)
         if told is None and are_pairs(self.book, value):
             told = self.told_pairs(value)

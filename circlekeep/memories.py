@@ -1,7 +1,10 @@
 """Memories: what was made of values that came up before, as papers have few worlds and cores in many cells."""
 
+# Deep enough for the things of lots and of pairs, and for their parts.
+DEPTH = 3
 
-def outline(value, depth):
+
+def outline(value, depth=DEPTH):
     """A key that equal values share: a value without what lies deeper in it, and without what is no string."""
     if isinstance(value, tuple) and depth > 0:
         return tuple([outline(part, depth - 1) for part in value])

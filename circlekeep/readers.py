@@ -4,9 +4,6 @@ from circlekeep.forms import is_whole
 from circlekeep.memories import Memory, outline
 from circlekeep.worlds import is_world
 
-# Deep enough for the things of lots and their parts.
-DEPTH = 3
-
 
 class WorldReader:
     """Reads worlds of the circle of a stage."""
@@ -20,7 +17,7 @@ class WorldReader:
         # True is no state, though it is equal to one.
         if not isinstance(value, tuple) or len(value) != 2 or not is_whole(value[0], 0, self.stage.circle.states):
             return None
-        key = (value[0], outline(value[1], DEPTH))
+        key = (value[0], outline(value[1]))
         told = self.memory.recalled(key, value)
         if told is None and is_world(self.stage.circle, value):
             told = self.stage.told_world(value)

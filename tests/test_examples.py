@@ -1,4 +1,4 @@
-"""[35] and the words of [4] to [28]: the examples, but those that speak of the house."""
+"""[35] and the words of [4] to [33]: the examples."""
 
 import unittest
 

@@ -1,13 +1,18 @@
 """[34]: names and parameters of the interface; answers that stay; arguments that are not changed."""
 
 import copy
+import importlib
 import inspect
+import pathlib
+import re
 import unittest
 
-from circlekeep import (books, circles, having, keepchecks, keeping, knowing, learning, likeness, mates, mends, pairlots, pictures,
-                        policies, recipes, respectchecks, respecting, rows, runs, shares, tellchecks, telling, things, worlds)
+from circlekeep import (books, circles, console, desk, findings, having, keepchecks, keeping, knowing, learning, likeness, logs,
+                        mates, mends, pairlots, pictures, policies, recipes, renewing, respectchecks, respecting, rows, runs, shares,
+                        tellchecks, telling, things, worlds)
 from helper import ROOM, ROW, STD, TWO, any_values
 
+DOCUMENT = pathlib.Path(__file__).resolve().parent.parent.parent / "shared" / "DOC.md"
 LOCK = ("lock", "s", "K")
 OTHER = rows.Row(STD, (("lock", "s", "L"), "L"))
 LOT = (("K", "L"), (LOCK, ("lock", "s", "L")))
@@ -76,6 +81,10 @@ FUNCTIONS = (
     (mends.with_needs, "circle names thing", (ROOM, ("hand",), "L")),
     (mends.least_left_out, "circle group thing most", (ROOM, (1,), "K", 6)),
     (mends.least_needs, "circle group thing need most", (ROOM, (1,), "K", "M", 6)),
+    (renewing.renewed, "circle name deed others", (ROOM, "K", "hand", ("L", "M"))),
+    (logs.first_fitting, "circle group row seers most", (ROOM, (1,), rows.Row(STD, ("L",)), ((1,),), 6)),
+    (logs.ends_fitting, "circle group row seers most", (ROOM, (1,), rows.Row(STD, ("L",)), ((1,),), 6)),
+    (findings.finding_holds, "thing", (("had", str(ROOM), (1,), "K", "hand", (("shown", 0),)),)),
 )
 
 # For each method an object, its name, its parameters in order, and valid arguments.
@@ -90,10 +99,19 @@ METHODS = (
 SPECIAL = ((books.Book, ("__eq__", "__str__", "is_thing", "read_thing", "needed", "read", "__init__")),
            (rows.Row, ("__eq__", "__str__", "__len__", "__iter__", "__add__", "with_thing", "only", "replaced", "read",
                        "__init__")),
-           (circles.Circle, ("__eq__", "__str__", "deed", "renamed", "turned", "read", "__init__")))
+           (circles.Circle, ("__eq__", "__str__", "deed", "renamed", "turned", "read", "__init__")),
+           (desk.Desk, ("__len__", "do", "undo", "redo", "row", "has", "knows", "__init__")), (console.Console, ("say", "__init__")))
 MODULES = (things, books, rows, recipes, having, pictures, likeness, pairlots, circles, worlds, runs, shares, keeping,
-           keepchecks, mates, telling, tellchecks, policies, respecting, respectchecks, knowing, learning, mends)
+           keepchecks, mates, telling, tellchecks, policies, respecting, respectchecks, knowing, learning, mends, renewing, desk, logs,
+           findings, console)
 CLASSES = (books.Book, rows.Row, circles.Circle)
+
+# Methods that change their objects: the parameters in order, arguments of calls that are done one behind the other on
+# new objects, and what they answer.
+CHANGING = ((lambda: desk.Desk(ROOM), "do", "name", ("post",), True), (lambda: desk.Desk(ROOM), "row", "group", ((0, 1),), ROW.only((1,))),
+            (lambda: desk.Desk(ROOM), "has", "group thing", ((1,), "K"), False),
+            (lambda: desk.Desk(ROOM), "knows", "group states most", ((1,), (0,), 6), True),
+            (console.Console, "say", "command", ("circle " + str(ROOM).replace("\n", ";"),), "ok"))
 
 
 class InterfaceTest(unittest.TestCase):
@@ -136,10 +154,44 @@ class InterfaceTest(unittest.TestCase):
             if before is not None:
                 self.assertEqual(vars(owner), before)
 
+    def test_methods_that_change_their_objects(self):
+        for make, name, words, arguments, answer in CHANGING:
+            words = words.split()
+            parameters = inspect.signature(getattr(make(), name)).parameters
+            self.assertEqual(list(parameters), words)
+            for word, parameter in parameters.items():
+                self.assertEqual(parameter.default, 200 if word == "most" else inspect.Parameter.empty)
+            kept = copy.deepcopy(arguments)
+            self.assertEqual(getattr(make(), name)(*arguments), answer)
+            self.assertEqual(getattr(make(), name)(**dict(zip(words, arguments))), answer)
+            self.assertEqual(arguments, kept)
+        for name in ("undo", "redo"):
+            self.assertEqual(list(inspect.signature(getattr(desk.Desk(ROOM), name)).parameters), [])
+        self.assertEqual(list(inspect.signature(desk.Desk).parameters), ["circle"])
+        self.assertEqual(list(inspect.signature(console.Console).parameters), [])
+
+    @unittest.skipUnless(DOCUMENT.exists(), "the document is not here")
+    def test_all_that_the_document_lists(self):
+        text = DOCUMENT.read_text(encoding="utf-8")
+        found = 0
+        for part in text[text.index("# The interface"):].split("## circlekeep/")[1:]:
+            module = importlib.import_module("circlekeep." + part[:part.index(".py")])
+            lines = [line for line in part.split("# Examples")[0].split("\n") if line.startswith("- ")]
+            for name, arguments in re.findall(r"`([a-z_]+)\(([a-z_=0-9, ]*)\)`", "\n".join(lines)):
+                if hasattr(module, name):
+                    signature = str(inspect.signature(getattr(module, name)))
+                    self.assertEqual(signature.replace(" ", ""), f"({arguments})".replace(" ", ""), name)
+                    self.assertEqual(getattr(module, name).__module__, module.__name__)
+                    found += 1
+            for name in re.findall(r"class `([A-Za-z]+)\(", part):
+                self.assertEqual(getattr(module, name).__module__, module.__name__)
+                found += 1
+        self.assertGreater(found, 75)
+
     def test_any_value_stays_as_it_is(self):
         for value in any_values():
             kept = copy.deepcopy(value)
-            for ask in (STD.is_thing, things.is_word, things.is_name):
+            for ask in (STD.is_thing, things.is_word, things.is_name, findings.finding_holds):
                 ask(value)
             for ask, arguments in ((recipes.is_recipe, (ROW,)), (having.is_had, (ROW,)),
                                    (having.judge_holds, (ROW, "s")),
@@ -168,7 +220,9 @@ class InterfaceTest(unittest.TestCase):
                        telling.first_telling(ROOM, TWO, (1,)), policies.ears_of(ROOM, ((0, 1),), 0),
                        respecting.judge_policy(ROOM, ((0, 1),)), knowing.possible_states(ROOM, (1,), RUN),
                        learning.judge_learning(ROOM, (1,), ()), learning.first_learning(ROOM, (1,), (1,)), mends.places_of(ROOM),
-                       mends.least_left_out(ROOM, (1,), "K"), mends.least_needs(ROOM, (1,), "K", "M")):
+                       mends.least_left_out(ROOM, (1,), "K"), mends.least_needs(ROOM, (1,), "K", "M"),
+                       logs.first_fitting(ROOM, (1,), rows.Row(STD, ("L",)), ((1,),)),
+                       logs.ends_fitting(ROOM, (1,), rows.Row(STD, ("L",)), ((1,),))):
             self.check_tuples(answer)
 
     def check_tuples(self, answer):
