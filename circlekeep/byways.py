@@ -7,10 +7,10 @@ from circlekeep.policies import ears_of
 class Byways:
     """What comes of two runs, side by side, that tell a member the same by a policy.
 
-    A byway is a tuple (member, one, other, core, heard): the numbers of the told worlds that the two runs have come
-    to, the told core of what the member saw on both, and those who were told something else on the one than on the
-    other. A split is a tuple (names, others, heard): the deeds by which two runs begin to differ, and who is told
-    something else then.
+    Spots are the told worlds that came up; elsewhere these are told by their numbers. A byway is a tuple (member, one,
+    other, core, heard): the worlds that the two runs have come to, the told core of what the member saw on both, and
+    those who were told something else on the one than on the other. A split is a tuple (names, others, heard): the
+    deeds by which two runs begin to differ, and who is told something else then.
     """
 
     def __init__(self, stage, policy):
@@ -20,7 +20,7 @@ class Byways:
         self.owners = {entry[0]: entry[1] for entry in circle.deeds}
         self.ears = [ears_of(circle, policy, member) for member in range(circle.members)]
         self.splits = [self.splits_for(member) for member in range(circle.members)]
-        self.worlds = []
+        self.spots = []
         self.numbers = {}
         self.ends = {}
         self.starts = {}
@@ -44,15 +44,15 @@ class Byways:
 
     def number_of(self, world):
         """The number of a told world."""
-        number = self.numbers.setdefault(world, len(self.worlds))
-        if number == len(self.worlds):
-            self.worlds.append(world)
+        number = self.numbers.setdefault(world, len(self.spots))
+        if number == len(self.spots):
+            self.spots.append(world)
         return number
 
     def end(self, number, name):
         """The number of the world behind a deed, open or not, and the told show that is seen, None if nothing is."""
         if (number, name) not in self.ends:
-            step = self.stage.step(self.worlds[number], name)
+            step = self.stage.step(self.spots[number], name)
             self.ends[number, name] = (number, None) if step is None else (self.number_of(step[0]), step[1])
         return self.ends[number, name]
 
@@ -70,7 +70,7 @@ class Byways:
         names, others, heard = split
         one, ahead = self.walked(number, names, member)
         other, behind = self.walked(number, others, member)
-        core = self.grown_core(self.core_of_lot(self.worlds[number][1][member]), ahead, behind)
+        core = self.grown_core(self.core_of_lot(self.spots[number][1][member]), ahead, behind)
         return None if core is None else (member, one, other, core, heard)
 
     def core_of_lot(self, lot):

@@ -11,7 +11,7 @@ from circlekeep.runs import is_group, read_run
 from circlekeep.tellchecks import telling_holds
 
 # How many parts the findings of each sort have.
-SORTS = {"kept": 5, "had": 6, "covered": 5, "tells": 5, "respected": 5, "shown": 7, "never": 5, "learns": 5}
+COUNTS = {"kept": 5, "had": 6, "covered": 5, "tells": 5, "respected": 5, "shown": 7, "never": 5, "learns": 5}
 
 
 def circle_in(value):
@@ -35,56 +35,56 @@ def are_states(circle, value):
     return isinstance(value, tuple) and all([is_whole(state, 0, circle.states) for state in value]) and ascends(value)
 
 
-def keeping_found(circle, sort, parts):
+def keeping_found(circle, word, parts):
     """Whether it holds that a circle keeps a thing from a group, or that it does not."""
     group, about = parts[:2]
     if not is_group(circle, group) or not circle.book.is_thing(about):
         return False
-    if sort == "kept":
+    if word == "kept":
         return keeping_holds(circle, group, about, ("kept", parts[2]))
     return keeping_holds(circle, group, about, ("had", run_in(circle, parts[2]), parts[3]))
 
 
-def telling_found(circle, sort, parts):
+def telling_found(circle, word, parts):
     """Whether it holds that a circle is covered by another one for a group, or that it is not."""
     other, group, told = circle_in(parts[0]), parts[1], parts[2]
     if other is None or not is_group(circle, group):
         return False
-    return telling_holds(circle, other, group, (sort, told if sort == "covered" else run_in(circle, told)))
+    return telling_holds(circle, other, group, (word, told if word == "covered" else run_in(circle, told)))
 
 
-def policy_found(circle, sort, parts):
+def policy_found(circle, word, parts):
     """Whether it holds that a policy is respected, or that it is not."""
     if not is_policy(circle, parts[0]):
         return False
-    if sort == "respected":
+    if word == "respected":
         return policy_holds(circle, parts[0], ("respected", *parts[1:]))
     member, run, other, paper = parts[1:]
     return policy_holds(circle, parts[0], ("shown", member, run_in(circle, run), run_in(circle, other), paper))
 
 
-def learning_found(circle, sort, parts):
+def learning_found(circle, word, parts):
     """Whether it holds that a group never learns that the state is among some states, or that it does."""
     group, states, told = parts
     if not is_group(circle, group) or not are_states(circle, states):
         return False
-    return learning_holds(circle, group, states, (sort, told if sort == "never" else run_in(circle, told)))
+    return learning_holds(circle, group, states, (word, told if word == "never" else run_in(circle, told)))
 
 
 def finding_holds(thing):
     """Whether any value is a finding that holds."""
     if not isinstance(thing, tuple) or not thing or not isinstance(thing[0], str):
         return False
-    sort = thing[0]
-    if SORTS.get(sort) != len(thing):
+    word = thing[0]
+    if COUNTS.get(word) != len(thing):
         return False
     circle = circle_in(thing[1])
     if circle is None:
         return False
-    if sort in ("kept", "had"):
-        return keeping_found(circle, sort, thing[2:])
-    if sort in ("covered", "tells"):
-        return telling_found(circle, sort, thing[2:])
-    if sort in ("respected", "shown"):
-        return policy_found(circle, sort, thing[2:])
-    return learning_found(circle, sort, thing[2:])
+    if word in ("kept", "had"):
+        return keeping_found(circle, word, thing[2:])
+    if word in ("covered", "tells"):
+        return telling_found(circle, word, thing[2:])
+    if word in ("respected", "shown"):
+        return policy_found(circle, word, thing[2:])
+    return learning_found(circle, word, thing[2:])

@@ -54,7 +54,7 @@ class Log:
             number += 1
         return None
 
-    def ends(self):
+    def end_states(self):
         """The ascending tuple of the states in which runs end that the row and its seers fit."""
         return self.follower.states_of(self.follower.mates_along(self.first, self.sights))
 
@@ -73,5 +73,5 @@ def first_fitting(circle, group, row, seers, most=200):
 
 
 def ends_fitting(circle, group, row, seers, most=200):
-    """The ascending tuple of the states in which runs end that a row and its seers fit; raises as first_fitting does."""
-    return log_of(circle, group, row, seers, most).ends()
+    """The ascending tuple of the states in which runs that a row and its seers fit end; raises as first_fitting."""
+    return log_of(circle, group, row, seers, most).end_states()

@@ -9,11 +9,13 @@ def renewed_move(move, shift, name, other):
     if move is None:
         return None
     follow, show = move
-    return follow + shift, show if show is None else (replaced(show[0], name, other), show[1])
+    if show is not None:
+        show = (replaced(show[0], name, other), show[1])
+    return follow + shift, show
 
 
 def renewed_moves(moves, names, renews):
-    """The moves of a deed for the lots of states of all names, the old one first; renews if it leads to the next lot."""
+    """The moves of a deed for the lots of states of all names; renews if it leads from each lot into the next one."""
     many = len(moves)
     found = []
     for lot, other in enumerate(names):

@@ -72,7 +72,7 @@ class Survey:
 
     def told_cells(self):
         """The cells of all byways, in order."""
-        worlds = self.byways.worlds
+        worlds = self.byways.spots
         told = sorted([(byway[0], worlds[byway[1]], worlds[byway[2]], *byway[3:]) for byway in self.found])
         made = {world: self.chart.stage.world_at(world) for world in worlds}
         cores = {byway[3]: self.byways.cores.core_at(byway[3]) for byway in self.found}
