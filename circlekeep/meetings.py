@@ -155,13 +155,13 @@ class Meeting:
         """Those of some cells that are needed."""
         found = []
         for cell in cells:
-            if not self.has_won(cell) and not self.is_covered(cell):
+            if not self.has_won(cell) and not self.is_outdone(cell):
                 place, bits, _ = cell
                 self.chosen.setdefault((place, bits.bit_length()), []).append(bits)
                 found.append(cell)
         return found
 
-    def is_covered(self, cell):
+    def is_outdone(self, cell):
         """Whether an earlier cell of the same place has no mates but some of those of a cell."""
         place, bits, _ = cell
         for number in numbers_in(bits):

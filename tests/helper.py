@@ -5,7 +5,9 @@ import random
 
 from circlekeep.books import Book, standard_book
 from circlekeep.circles import Circle
-from circlekeep.errors import BadText
+from circlekeep.console import Console
+from circlekeep.desk import Desk
+from circlekeep.errors import BadText, NoDeed
 from circlekeep.rows import Row
 
 STD = standard_book()
@@ -65,6 +67,9 @@ def any_values():
         STD, WIDE, ROW, ROOM, BadText(3), (0, (("K",), ())), ("kept", ()), ("had", (), (("shown", 0),)), (0, ROOM),
         ("kept", (((0, (("K",), ())), ()),)), ("covered", ()), ("tells", ()), ((0, 1),), (0, 1), (STD, ROW), ("half", ROW), ("half", STD), (ROW, ROW, ROW), ((STD,), 1),
         (ROW, (("shown", 0),)), ("had", ROW), (STD, ()), ("alike", ((STD, ROW),)), ("closed", (ROW,)),
+        Desk(ROOM), Console(), (Desk(ROOM), Console()), ("kept", Desk(ROOM)), ("respected", (), ()), ("shown", 0, (), (), None),
+        ("never", ()), ("learns", ()), ("kept", str(ROOM), (1,), "L", ()), {"state": ROOM, 1: [Desk(ROOM)]}, (0, 1, Desk(ROOM)),
+        NoDeed("post"),
     ]
 
 

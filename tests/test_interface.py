@@ -114,6 +114,17 @@ CHANGING = ((lambda: desk.Desk(ROOM), "do", "name", ("post",), True), (lambda: d
             (console.Console, "say", "command", ("circle " + str(ROOM).replace("\n", ";"),), "ok"))
 
 
+def plain(value):
+    """A value with what objects are made of in the place of these, as some of them are equal to themselves alone."""
+    if isinstance(value, (tuple, list)):
+        return [type(value), [plain(part) for part in value]]
+    if isinstance(value, dict):
+        return [[key, plain(part)] for key, part in value.items()]
+    if hasattr(value, "__dict__"):
+        return [type(value), plain(vars(value))]
+    return value
+
+
 class InterfaceTest(unittest.TestCase):
 
     def test_each_is_defined_where_it_is_listed(self):
@@ -201,8 +212,7 @@ class InterfaceTest(unittest.TestCase):
                                    (tellchecks.telling_holds, (ROOM, TWO, (1,))), (respectchecks.policy_holds, (ROOM, ())),
                                    (learning.learning_holds, (ROOM, (1,), (0,)))):
                 self.assertIn(ask(*arguments, value), (True, False))
-            if not isinstance(value, Exception):
-                self.assertEqual(value, kept)
+            self.assertEqual(plain(value), plain(kept))
 
     def test_answers_are_tuples(self):
         self.assertIsInstance(things.pieces_of(LOCK), tuple)
