@@ -1,12 +1,8 @@
-"""Meetings: the first run of some kind, looked for from its beginning and from its end at once.
+"""Meetings: the first run of some kind, looked for from its beginning and from its end at once."""
 
-A cell is here a tuple (place, bits, run): the place of a reached world, the set of the mates of a run to it, and this
-run.
-"""
-
-from circlekeep.images import Images, bits_of, numbers_in
-from circlekeep.runs import sight_of
-from circlekeep.strategies import Strategy
+from circlekeep.images import bits_of, numbers_in
+from circlekeep.paths import Paths
+from circlekeep.tables import Table
 
 # As long as no more cells than these are of one length, nothing is looked for from the end.
 FEW = 100
@@ -30,24 +26,6 @@ def greatest(sets):
     return found
 
 
-class Paths:
-    """What becomes of cells while deeds are done in a first circle.
-
-    Of each place of a reached world, steps has for each deed that is open there its name, the place behind it, and what
-    the group sees.
-    """
-
-    def __init__(self, chart, follower):
-        self.steps = [[(name, follow, sight_of(follower.group, show)) for name, follow, show in onward]
-                      for onward in chart.onward]
-        self.images = Images(follower)
-
-    def cells_behind(self, cell):
-        """The cells that are longer by a deed that is open, in the order of their runs."""
-        place, bits, run = cell
-        return [(follow, self.images.image(bits, sight), (*run, name)) for name, follow, sight in self.steps[place]]
-
-
 class Ends:
     """What mates are driven into some states by runs, from the ends of these on.
 
@@ -55,17 +33,17 @@ class Ends:
     greatest sets of mates all of which are in the states behind one and the same run of this length.
     """
 
-    def __init__(self, paths, strategy, begun):
+    def __init__(self, paths, begun):
         self.paths = paths
         self.mates = {}
         self.spread(begun)
-        lost = [[number for number in self.mates.get(place, []) if not strategy.is_outside(number)]
+        lost = [[number for number in self.mates.get(place, []) if not paths.strategy.is_outside(number)]
                 for place in range(len(paths.steps))]
         self.sets = [{place: [bits_of(numbers)] for place, numbers in enumerate(lost)}]
 
     def spread(self, begun):
-        """Note the mates that can come up at each place if some mates are there at first."""
-        waiting = [(0, number) for number in numbers_in(begun)]
+        """Note the mates that can come up at each place, begun being the cell of the empty run."""
+        waiting = [(0, number) for number in numbers_in(begun[1])]
         known = {pair: True for pair in waiting}
         while waiting:
             place, number = waiting.pop()
@@ -100,41 +78,36 @@ class Ends:
 
 
 class Meeting:
-    """The search for the first run of a first circle all of whose mates are in some states.
-
-    There is no cell for a run if an earlier cell of the same place has no mates but some of those of the run, as what
-    is found behind the run is found from there, too; nor if one mate of it follows whatever is done and can always be
-    in none of the states.
-    """
+    """The search for the first run of a first circle all of whose mates are in some states."""
 
     def __init__(self, chart, follower, states):
-        self.paths = Paths(chart, follower)
-        self.strategy = Strategy(chart, follower, states)
-        self.chosen = {}
-        self.lost = {}
-        self.won = {}
+        self.paths = Paths(chart, follower, states)
+        self.table = Table(chart, follower, states)
 
     def first_run(self, first):
         """The run that is looked for, None if there is none; first is the core of the empty runs, or None."""
-        begun = bits_of(self.strategy.follower.mates_at_first(first))
-        level = self.needed([(0, begun, ())])
+        begun = self.paths.first_cell(first)
+        level = self.paths.needed([begun])
         # Nothing is asked of the ends as long as there is little to look at: most runs are found soon.
         while level and len(level) <= FEW:
             for cell in level:
-                if not any([self.strategy.is_outside(number) for number in numbers_in(cell[1])]):
+                if not self.paths.outside(cell):
                     return cell[2]
             level = self.longer(level)
-        return self.met_run(level, Ends(self.paths, self.strategy, begun)) if level else None
+        # Whether there is such a run at all is soon told, and else all ends would be looked at in vain.
+        if not level or self.table.explore(first) is None:
+            return None
+        return self.met_run(level, Ends(self.paths, begun))
 
     def met_run(self, level, ends):
-        """The run that is looked for behind one of the cells of a level, all of one length; None if there is none."""
+        """The run that is looked for behind one of the cells of a level, all of one length."""
         while level:
             back = len(ends.sets) - 1
             # All lengths are tried one by one, so what is met first is a shortest run.
             for cell in level:
                 if ends.is_end(cell, back):
                     return self.completed(cell, ends)
-            # No more steps back than forth, so that all comes to an end if there is no such run.
+            # No more steps back than forth, as from the end much is looked at that no run comes to.
             if back < len(level[0][2]) and ends.width() < len(level):
                 ends.step_back()
             else:
@@ -148,37 +121,5 @@ class Meeting:
         return cell[2]
 
     def longer(self, level):
-        """The cells that are needed behind those of a level."""
-        return self.needed([follow for cell in level for follow in self.paths.cells_behind(cell)])
-
-    def needed(self, cells):
-        """Those of some cells that are needed."""
-        found = []
-        for cell in cells:
-            if not self.has_won(cell) and not self.is_outdone(cell):
-                place, bits, _ = cell
-                self.chosen.setdefault((place, bits.bit_length()), []).append(bits)
-                found.append(cell)
-        return found
-
-    def is_outdone(self, cell):
-        """Whether an earlier cell of the same place has no mates but some of those of a cell."""
-        place, bits, _ = cell
-        for number in numbers_in(bits):
-            for other in self.chosen.get((place, number + 1), []):
-                if other & bits == other:
-                    return True
-        return False
-
-    def has_won(self, cell):
-        """Whether a mate of a cell follows whatever is done, and can always be in none of the states."""
-        place, bits, _ = cell
-        if bits & self.won.get(place, 0):
-            return True
-        lost = self.lost.get(place, 0)
-        for number in numbers_in(bits & lost ^ bits):
-            if self.strategy.is_won(place, number):
-                self.won[place] = self.won.get(place, 0) | 1 << number
-                return True
-        self.lost[place] = lost | bits
-        return False
+        """The cells that are to be looked at behind those of a level."""
+        return self.paths.needed([follow for cell in level for follow in self.paths.cells_behind(cell)])

@@ -1,76 +1,50 @@
-"""Tables: the reached worlds of a first circle with mates that runs to them have."""
+"""Tables: the search for a run without mates, and for cells that show that there is none."""
 
 from heapq import heappop, heappush
 
-from circlekeep.images import bits_of
-from circlekeep.runs import sight_of
-from circlekeep.strategies import Strategy
+from circlekeep.images import numbers_in
+from circlekeep.paths import Paths
 
 
 class Table:
-    """Cells of places of reached worlds and numbers of mates, each with a run that leads to it.
-
-    Looked for is a run all of whose mates are in some states: one without mates, if there are no states. There is no
-    cell for a run if an earlier cell with the same world has no mates but some of those of the run, as whatever is
-    found behind the run is found from there, too; nor if one mate of it follows whatever is done and can always be in
-    none of the states, as nothing is found then. Such mates are the roots.
-    """
+    """The cells that lead to a run all of whose mates are in some states, or show that there is none."""
 
     def __init__(self, chart, follower, states):
         self.chart = chart
         self.follower = follower
-        self.strategy = Strategy(chart, follower, states)
+        self.paths = Paths(chart, follower, states)
         self.queue = []
         self.cells = []
-        self.runs = []
-        self.chosen = {}
-        self.roots = {}
 
-    def note_cell(self, place, mates, run):
-        """Note a cell, if it is needed, with the run that leads to it."""
-        # One bit for each mate: there are many cells, and each is compared with all earlier ones of its world.
-        bits = bits_of(mates)
-        earlier = self.chosen.setdefault(place, [])
-        for other in earlier:
-            if other & bits == other:
-                return
-        for number in mates:
-            if self.strategy.is_won(place, number):
-                self.roots[place, number] = True
-                return
-        earlier.append(bits)
-        # Where fewest mates are left outside, a run without any is near.
-        heappush(self.queue, (len(self.outside(mates)), len(self.cells)))
-        self.cells.append((place, mates))
-        self.runs.append(run)
-
-    def outside(self, mates):
-        """Those of some mates that are in none of the states."""
-        return [number for number in mates if self.strategy.is_outside(number)]
-
-    def look_on(self, number):
-        """Note what is behind the cell with a number."""
-        place, mates = self.cells[number]
-        for name, follow, show in self.chart.onward[place]:
-            sight = sight_of(self.follower.group, show)
-            further = mates if sight is None else self.follower.moved(mates, sight)
-            self.note_cell(follow, further, (*self.runs[number], name))
+    def note(self, cells):
+        """Note those of some cells that are to be looked at."""
+        for cell in self.paths.needed(cells):
+            # Where fewest mates are left outside, a run without any is near.
+            heappush(self.queue, (len(self.paths.outside(cell)), len(self.cells)))
+            self.cells.append(cell)
 
     def explore(self, first):
         """A run that is looked for, None if there is none; first is the core of the empty runs, or None."""
-        self.note_cell(0, self.follower.mates_at_first(first), ())
+        self.note([self.paths.first_cell(first)])
         while self.queue:
-            _, number = heappop(self.queue)
-            if not self.outside(self.cells[number][1]):
-                return self.runs[number]
-            self.look_on(number)
+            left, number = heappop(self.queue)
+            cell = self.cells[number]
+            if left == 0:
+                return cell[2]
+            self.note(self.paths.cells_behind(cell))
         return None
+
+    def won_pairs(self):
+        """The pairs of a place and a mate that follows whatever is done, and what answers for those that came up."""
+        roots = [(place, number) for place, bits in self.paths.won.items() for number in numbers_in(bits)]
+        return self.paths.strategy.pairs_from(roots)
 
     def told_cells(self):
         """A paper's cells, if there is no such run: ordered by their worlds, then by their mates."""
-        pairs = self.strategy.pairs_from(list(self.roots))
-        single = [(place, sorted({number, self.strategy.witness(number)})) for place, number in pairs]
-        told = [self.told_cell(place, mates) for place, mates in [*self.cells, *single]]
+        told = [self.told_cell(place, numbers_in(bits)) for place, bits, _ in self.cells]
+        for place, number in self.won_pairs():
+            witness = self.paths.strategy.witness(number)
+            told.append(self.told_cell(place, sorted({number, witness})))
         return tuple([self.cell_at(cell) for cell in sorted(told)])
 
     def told_cell(self, place, mates):

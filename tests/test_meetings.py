@@ -8,8 +8,8 @@ from circlekeep.circles import Circle
 from circlekeep.images import Images, bits_of, numbers_in
 from circlekeep.learning import first_learning
 from circlekeep.mates import matched
-from circlekeep.meetings import Ends, Paths
-from circlekeep.strategies import Strategy
+from circlekeep.meetings import Ends
+from circlekeep.paths import Paths
 from circlekeep.telling import first_telling
 from helper import STD, all_groups, all_runs, like_circle, random_circle, same_rng, slow_reached
 
@@ -18,7 +18,7 @@ def searched(one, other, group, states):
     """The first run all of whose mates are in some states, None if there is none, by all sets of mates of runs."""
     chart, follower, first = matched(one, other, group, 200)
     begun = bits_of(follower.mates_at_first(first))
-    paths = Paths(chart, follower)
+    paths = Paths(chart, follower, ())
     waiting = [(0, begun, ())]
     known = {(0, begun)}
     while waiting:
@@ -106,8 +106,8 @@ class EndsTest(unittest.TestCase):
             group = rng.choice(all_groups(circle))
             states = tuple(sorted(rng.sample(range(circle.states), rng.randint(0, circle.states))))
             chart, follower, first = matched(circle, circle, group, 200)
-            paths = Paths(chart, follower)
-            ends = Ends(paths, Strategy(chart, follower, states), bits_of(follower.mates_at_first(first)))
+            paths = Paths(chart, follower, states)
+            ends = Ends(paths, paths.first_cell(first))
             for many in range(3):
                 for place, numbers in ends.mates.items():
                     for _ in range(4):
