@@ -59,7 +59,9 @@ class ConsoleTest(unittest.TestCase):
                         "do  post", " do post", "do post ", "do\npost", "do post\n", "\ndo post", "row", "row 0 1", "row  1", "has 1", "has", "has 1 K K",
                         "has  1 K", "keeps 1", "keeps", "keeps 1 K L", "knows 1", "knows 1 0 1", "first 1", "first", "first 1 K K", "circle",
                         "circle ", " circle " + TEXT, "circle  " + TEXT, "circle " + TEXT + " ", "circle " + TEXT.replace(";", "\n"),
-                        "circle " + TEXT + "\n", "Circle " + TEXT, TEXT, "circle" + TEXT, "state\n", "row 0, 1", "none", "yes", "circle;" + TEXT):
+                        "circle " + TEXT + "\n", "Circle " + TEXT, TEXT, "circle" + TEXT, "state\n", "row 0, 1", "none", "yes", "circle;" + TEXT,
+                        "do ", "row ", "has 1 ", "has  K", "knows  0", "first 1 ", " undo", " state", "has  ", "circle  ", "circle x ",
+                        "circle " + TEXT.replace(" ", "  ", 1)):
             self.refuses(console, command)
             self.refuses(begun(), command)
 

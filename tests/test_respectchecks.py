@@ -176,6 +176,17 @@ class RespectedTest(unittest.TestCase):
             self.assertEqual(len(more[1]), 2)
             self.holds(circle, policy, *more, True)
 
+    def test_who_may_have_heard(self):
+        # A cell that nobody asks for, and behind which nothing comes: it has to have the right form all the same.
+        still = Circle(STD, 4, 1, (), (("K",), (), (), ()))
+        start = worlds_of(still)
+        for heard, wanted in (((), True), ((1,), True), ((0, 1), True), ((0, 1, 3), True), ((1, 0), False), ((0, 0), False), ((3, 1), False),
+                              ((2,), False), ((0, 2), False), ((0, 4), False), ((-1,), False), ((0, True), False), ((False, 1), False),
+                              ([0, 1], False), (0, False), (None, False), ((None,), False), (("0",), False)):
+            self.holds(still, (), start, ((2, start[0], start[0], (("X", "Y"),), heard),), wanted)
+        for member, wanted in ((0, True), (3, True), (4, False), (-1, False), (True, False), (None, False), ("1", False), ((1,), False)):
+            self.holds(still, (), start, ((member, start[0], start[0], (("X", "Y"),), ()),), wanted)
+
     def test_who_has_heard(self):
         # The state that 0 changes shows when 1 asks, who may be told; 2 sees it then, and may be told by 1.
         circle = Circle(STD, 3, 2, (("ask", 1, None, ((0, ("s", (2,))), (1, ("t", (2,))))), ("go", 0, None, ((1, None), (1, None)))),

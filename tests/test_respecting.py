@@ -106,6 +106,19 @@ class RespectsTest(Checked):
         self.check(Circle(STD, 3, 2, loud, ((), (), ())), (*policy, (2, 1)), False)
         self.check(Circle(STD, 3, 2, loud, ((), (), ())), ((0, 1), (0, 2), (2, 1)), True)
 
+    def test_what_shows_late(self):
+        # What 0 did shows behind three more deeds alone, in their order.
+        def deed(name, owner, table):
+            return name, owner, None, tuple([table.get(state) for state in range(8)])
+        deeds = (deed("a", 1, {0: (1, None), 4: (5, None)}), deed("b", 1, {1: (2, None), 5: (6, None)}),
+                 deed("c", 1, {2: (3, None), 6: (7, None)}), deed("go", 0, {0: (4, None)}),
+                 deed("say", 1, {3: (3, ("s", (1,))), 7: (7, ("t", (1,)))}))
+        circle = Circle(STD, 2, 8, deeds, ((), ()))
+        member, run, other, paper = self.check(circle, (), False)[1:]
+        self.assertEqual((member, run[-3:], other[-3:]), (1, ("b", "c", "say"), ("b", "c", "say")))
+        self.assertIsNotNone(paper)
+        self.check(circle, ((0, 1),), True)
+
     def test_orders_of_deeds(self):
         # 2 may know what both do, but not which of them was first.
         policy = ((0, 2), (1, 2))
